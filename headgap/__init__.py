@@ -1,0 +1,1 @@
+"""Headgap: converters that rewrite a text within one array, and the room that they need."""

@@ -1,0 +1,39 @@
+"""What several tests need: a check of refused calls, and values of every kind."""
+
+import unittest
+
+from headgap.converters import Converter
+from headgap.growths import Growth
+
+LINES = Converter("s", {("s", "a"): ("a", "s"), ("s", "n"): ("rn", "s")}, {"s": ""})
+TWICE = Growth.ramp(2)
+
+# Values of every kind, some of each: a test takes those that are wrong at its place.
+ANYTHING = (
+    None, True, False, 0, 1, 5, -1, 10 ** 30, "", "a", "abcdefgh", "abcdefghi", "A", "a b", "a\n", "1", "-", " ",
+    (), ("a",), ("a", "b"), (1, 2), [], ["a", "b"], [1], {}, {"a": 1}, {("s", "a"): ("a", "s")},
+    [[[[[[[[]]]]]]]], LINES, TWICE,
+)
+
+
+def same(one, other):
+    """Whether two values are equal and of the same kind throughout."""
+    if type(one) is not type(other):
+        return False
+    if isinstance(one, (list, tuple)):
+        return len(one) == len(other) and all(same(a, b) for a, b in zip(one, other))
+    return one == other
+
+
+class Checks(unittest.TestCase):
+    def refused(self, error, fields, work, *values, **named):
+        """work raises just this error, with these fields in their order."""
+        with self.assertRaises(error) as held:
+            work(*values, **named)
+        self.assertIs(type(held.exception), error)
+        told = tuple(vars(held.exception).values())
+        self.assertTrue(same(told, tuple(fields)), f"{error.__name__}{told!r} instead of {fields!r}")
+
+    def equal(self, one, other):
+        """Both are equal, in their kinds, too."""
+        self.assertTrue(same(one, other), f"{one!r} instead of {other!r}")

@@ -1,0 +1,80 @@
+"""The examples of the document, as they stand there."""
+
+import unittest
+
+import headgap.errors
+
+GROWTHS = '''
+>>> from headgap.growths import Growth
+>>> stairs, twice = Growth([0, 1, 2, 3, 4], [6] * 5), Growth.ramp(2)
+>>> [stairs[4], stairs[5], stairs(10 ** 30) == 12 * 10 ** 29, stairs.stretch(3, 7), str(stairs), str(twice), str(Growth([3, 5, 7, 9], (4, 4)))]
+[4, 6, True, (3, 4, 6, 7), '0 1 2 3 4 ; 6 6 6 6 6', '0 ; 2', '3 ; 2']
+>>> [str(stairs - Growth.ramp(1)), str(twice | 7 - twice), str(twice & Growth.constant(3)), str(twice << 3), str(twice >> 1), str((twice - 5).raised(0))]
+['0 0 0 0 0 ; 1 1 1 1 1', '7 5 4 ; 2', '0 2 3 ; 0', '6 ; 2', '- 0 ; 2', '0 0 0 1 ; 2']
+>>> odd = Growth([None, 1], [0, 1])
+>>> [5 in odd, 4 in odd, odd.stretch(0, 6), str(odd + twice), str(odd | Growth.constant(2)), odd <= twice, twice.first_above(stairs), odd.slope, stairs.slope, Growth.constant(4).greatest]
+[True, False, (None, 1, None, 2, None, 3), '- 3 ; 0 5', '2 2 2 2 ; 0 1', True, 1, (1, 2), (6, 5), 4]
+>>> Growth.read("0 1 ; 1")
+raises BadText(0, 0)
+>>> Growth([1], [1, 2])
+raises BadGrowth('told')
+'''
+
+CONVERTERS = '''
+>>> from headgap.converters import Converter
+>>> lines = Converter("s", {("s", "a"): ("a", "s"), ("s", "n"): ("rn", "s")}, {"s": ""})
+>>> [str(lines), lines("ana"), lines.takes("x"), lines["s", "n"], lines.tail("s"), "n" in lines, len(lines), list(lines), lines.letters]
+['@s s:a>a>s s:n>rn>s s$', 'arna', False, ('rn', 's'), '', True, 1, ['s'], ('a', 'n')]
+>>> odd = Converter.of("p", p={"a": ("x", "q"), "": ""}, q={"a": ("", "p")})
+>>> [str(odd), odd("aa"), odd == Converter.read("@p p:a>x>q q:a>>p p$"), str(odd.with_tail("q", "yy").without_step("q", "a")), str(lines.narrowed("a"))]
+['@p p:a>x>q q:a>>p p$', 'x', True, '@p p:a>x>q p$ q$yy', '@s s:a>a>s s$']
+>>> odd("a")
+raises NoTail('q')
+>>> lines("axn")
+raises NoStep(1, 's')
+>>> Converter.read("@p q:a>>p p:a>x>q p$")
+raises BadText(0, 2)
+'''
+
+# Of the section of headgap/joins.py what the signs tell.
+SIGNS = '''
+>>> back = Converter("s", {("s", "a"): ("a", "s"), ("s", "r"): ("", "t"), ("t", "n"): ("n", "s")}, {"s": ""})
+>>> [str(lines >> back), (lines >> back)("ana") == "ana", str(lines >> lines.narrowed("a")), str(lines * 2)]
+['@a a:a>a>a a:n>n>a a$', True, '@a a:a>a>a a$', '@s s:a>aa>s s:n>rnrn>s s$']
+>>> [str(lines & odd), str(lines | Converter("x", {("x", "b"): ("", "x")}, {"x": "z"}))]
+['@a a:a>a>b b:a>a>a a$', '@a a:a>a>a a:b>>a a:n>rn>a a$z']
+>>> lines | lines
+raises Taken('a')
+>>> lines >> (lines * 3)
+raises TooMany('answer', 4)
+'''
+
+
+def outcome(code, names):
+    """What an example shows: nothing, its value, or the error that it raises with its fields."""
+    try:
+        if code.startswith("from ") or " = " in code:
+            exec(code, names)
+            return ""
+        return repr(eval(code, names))
+    except headgap.errors.HeadError as error:
+        fields = ", ".join(repr(value) for value in vars(error).values())
+        return f"raises {type(error).__name__}({fields})"
+
+
+class Examples(unittest.TestCase):
+    def check(self, *texts):
+        names = {}
+        for text in texts:
+            for part in text.strip("\n").split(">>> ")[1:]:
+                code, _, told = part.strip("\n").partition("\n")
+                self.assertEqual(outcome(code, names), told, code)
+
+    def test_growths(self):
+        self.check(GROWTHS)
+
+    def test_converters(self):
+        self.check(CONVERTERS)
+
+    def test_signs(self):
+        self.check(CONVERTERS, SIGNS)

@@ -1,0 +1,152 @@
+"""The rules of the language that can be told from the files of the package, one by one."""
+
+import ast
+import builtins
+import os
+import re
+import unittest
+
+FOLDER = os.path.join(os.path.dirname(os.path.dirname(os.path.abspath(__file__))), "headgap")
+LIBRARY = {"math": {"gcd", "lcm", "isqrt", "comb", "perm", "factorial"}}
+ALLOWED = set("""
+len range enumerate zip min max sum abs sorted reversed int str bool list tuple dict set frozenset isinstance ord repr
+any all divmod pow getattr hasattr setattr iter next map Exception ValueError TypeError KeyError IndexError LookupError
+ZeroDivisionError ArithmeticError OverflowError RuntimeError NotImplementedError AttributeError StopIteration
+NotImplemented property staticmethod classmethod super""".split())
+NEVER = set("""
+register mro elements open input law version_info with_traceback add_note attrgetter breakpoint compile copyright
+credits delattr dir eval exec exit gc globals help id importlib license locals methodcaller os quit type vars sys
+""".split())
+WORDS = re.compile(r"\b(typing|enum|Enum|Flag|Generic|Protocol|ABC|namedtuple|NamedTuple|TypedDict|_wall|_WallAttr)\b"
+                   r"|dataclass|overload|contextmanager|Meta|\(type\)")
+SPECIAL = set("""
+__init__ __eq__ __repr__ __str__ __len__ __enter__ __exit__ __call__ __iter__ __lt__ __le__ __gt__ __ge__ __ne__
+__add__ __sub__ __mul__ __floordiv__ __mod__ __pow__ __and__ __or__ __xor__ __lshift__ __rshift__ __radd__ __rsub__
+__rmul__ __rand__ __ror__ __rxor__ __rlshift__ __rrshift__ __iadd__ __isub__ __imul__ __iand__ __ior__ __neg__ __pos__
+__invert__ __abs__ __bool__ __contains__ __getitem__ __setitem__""".split())
+NUMBERS_AND_STRINGS = {"len", "int", "ord", "str", "repr"}
+
+
+def files():
+    for name in sorted(os.listdir(FOLDER)):
+        if name != "__pycache__":
+            with open(os.path.join(FOLDER, name), encoding="utf-8") as held:
+                yield name, held.read()
+
+
+def is_plain(node):
+    """Whether it is plainly a number or a string, as the rule for sorted, min and max asks beside an order."""
+    if isinstance(node, ast.BinOp) and isinstance(node.op, ast.Add):
+        return is_plain(node.left) and is_plain(node.right)
+    if isinstance(node, ast.Call) and isinstance(node.func, ast.Name):
+        return node.func.id in NUMBERS_AND_STRINGS
+    return isinstance(node, (ast.Constant, ast.JoinedStr))
+
+
+def is_plain_row(node):
+    """Whether it is plainly a row of numbers or strings."""
+    if isinstance(node, (ast.List, ast.Tuple)):
+        return all(is_plain(part) for part in node.elts)
+    if isinstance(node, ast.Call) and isinstance(node.func, ast.Name):
+        return node.func.id == "range"
+    return isinstance(node, ast.ListComp) and is_plain(node.elt)
+
+
+class Language(unittest.TestCase):
+    def nodes(self, *kinds):
+        for name, text in files():
+            for node in ast.walk(ast.parse(text)):
+                if isinstance(node, kinds):
+                    yield f"{name}:{getattr(node, 'lineno', 0)}", node
+
+    def test_files(self):
+        for name, text in files():
+            self.assertRegex(name, r"\A(__init__|[a-z][a-z0-9_]*)\.py\Z")
+            self.assertTrue(all(sign == "\n" or " " <= sign <= "~" for sign in text), name)
+            self.assertLessEqual(len(text.split("\n")) - 1, 399, name)
+            self.assertLessEqual(max(len(line) for line in text.split("\n")), 120, name)
+            self.assertNotRegex(text, WORDS, name)
+
+    def test_imports(self):
+        for place, node in self.nodes(ast.Import, ast.ImportFrom):
+            self.assertIsInstance(node, ast.ImportFrom, place)
+            self.assertTrue(all(part.asname is None for part in node.names), place)
+            if not node.module.startswith("headgap."):
+                self.assertIn(node.module, LIBRARY, place)
+                self.assertLessEqual({part.name for part in node.names}, LIBRARY[node.module], place)
+
+    def test_imports_name_the_defining_file_in_no_circle(self):
+        trees = {name[:-3]: ast.parse(text) for name, text in files()}
+        wanted = {name: [node for node in tree.body if isinstance(node, ast.ImportFrom)] for name, tree in trees.items()}
+        for nodes in wanted.values():
+            for node in nodes:
+                if node.module.startswith("headgap."):
+                    told = ast.dump(trees[node.module[8:]])
+                    for part in node.names:
+                        self.assertRegex(told, rf"(Def\(name|Store\(\).*|Name\(id)='{part.name}'")
+        done = set()
+        while len(done) < len(trees):
+            ready = {name for name in trees if name not in done and all(
+                node.module[8:] in done for node in wanted[name] if node.module.startswith("headgap."))}
+            self.assertTrue(ready, "imports in a circle")
+            done |= ready
+
+    def test_module_level(self):
+        for name, text in files():
+            for node in ast.parse(text).body:
+                docstring = isinstance(node, ast.Expr) and isinstance(node.value, ast.Constant)
+                self.assertTrue(docstring or isinstance(node, (ast.ImportFrom, ast.FunctionDef, ast.ClassDef, ast.Assign)),
+                                f"{name}:{node.lineno}")
+
+    def test_functions(self):
+        for place, node in self.nodes(ast.FunctionDef):
+            self.assertLessEqual(node.end_lineno - node.lineno + 1, 40, place)
+            self.assertTrue(not node.name.startswith("__") or node.name in SPECIAL, place)
+            self.assertIsNone(node.returns, place)
+            marks = [part.id if isinstance(part, ast.Name) else part.attr for part in node.decorator_list]
+            self.assertTrue(all(mark in ("property", "setter", "staticmethod", "classmethod") for mark in marks), place)
+
+    def test_statements(self):
+        barred = (ast.Global, ast.AsyncFunctionDef, ast.Await, ast.AnnAssign, ast.Import, ast.Set, ast.GeneratorExp)
+        for place, node in self.nodes(*barred):
+            self.fail(f"{place}: {type(node).__name__}")
+        for place, node in self.nodes(ast.AugAssign):
+            self.assertIsInstance(node.value, ast.Constant, place)
+
+    def test_values(self):
+        for place, node in self.nodes(ast.Constant):
+            self.assertNotIsInstance(node.value, (float, complex, bytes), place)
+            if isinstance(node.value, str):
+                self.assertNotIn("%", node.value, place)
+        for place, node in self.nodes(ast.BinOp):
+            self.assertNotIsInstance(node.op, (ast.Div, ast.MatMult), place)
+        for place, node in self.nodes(ast.Compare):
+            for operator, part in zip(node.ops, node.comparators):
+                if isinstance(operator, (ast.Is, ast.IsNot)):
+                    self.assertIsInstance(part, ast.Constant, place)
+
+    def test_names(self):
+        known = set(dir(builtins))
+        for place, node in self.nodes(ast.Name):
+            self.assertTrue(node.id not in known or node.id in ALLOWED, f"{place}: {node.id}")
+            self.assertNotIn(node.id, NEVER, place)
+            if isinstance(node.ctx, ast.Store):
+                self.assertNotIn(node.id, known, place)
+        for place, node in self.nodes(ast.arg):
+            self.assertNotIn(node.arg, known | NEVER, place)
+            self.assertIsNone(node.annotation, place)
+        for place, node in self.nodes(ast.Attribute):
+            self.assertFalse(node.attr.startswith("_") or node.attr in NEVER, f"{place}: {node.attr}")
+
+    def test_sorted_min_and_max_beside_an_order(self):
+        for place, node in self.nodes(ast.Call):
+            if isinstance(node.func, ast.Name) and node.func.id in ("sorted", "min", "max"):
+                single = len(node.args) == 1
+                good = is_plain_row(node.args[0]) if single else any(is_plain(part) for part in node.args)
+                self.assertTrue(good, place)
+
+    def test_interface_is_defined_in_its_files(self):
+        told = {"errors.py": ["HeadError"], "papers.py": ["Verdict"], "growths.py": ["Growth"], "converters.py": ["Converter"]}
+        for name, text in files():
+            classes = [node.name for node in ast.parse(text).body if isinstance(node, ast.ClassDef)]
+            self.assertLessEqual(set(told.get(name, [])), set(classes), name)
