@@ -4,6 +4,8 @@ import unittest
 
 from headgap.converters import Converter
 from headgap.growths import Growth
+from headgap.rates import Rate
+from headgap.rings import Mean, Ring
 
 LINES = Converter("s", {("s", "a"): ("a", "s"), ("s", "n"): ("rn", "s")}, {"s": ""})
 TWICE = Growth.ramp(2)
@@ -12,8 +14,12 @@ TWICE = Growth.ramp(2)
 ANYTHING = (
     None, True, False, 0, 1, 5, -1, 10 ** 30, "", "a", "abcdefgh", "abcdefghi", "A", "a b", "a\n", "1", "-", " ",
     (), ("a",), ("a", "b"), (1, 2), [], ["a", "b"], [1], {}, {"a": 1}, {("s", "a"): ("a", "s")},
-    [[[[[[[[]]]]]]]], LINES, TWICE,
+    [[[[[[[[]]]]]]]], LINES, TWICE, Rate(3, 2), Rate(1), Ring("s", "n"), Mean(Rate(2), Ring("s", "n"), {"s": 0}),
 )
+# What decides by itself what its signs mean, also as a left operand.
+WITH_SIGNS = (Converter, Growth, Rate)
+NO_CONVERTERS = [value for value in ANYTHING if not isinstance(value, Converter)]
+NO_TEXTS = [value for value in ANYTHING if value not in ("", "a", "abcdefgh", "abcdefghi")] + ["a" * 401]
 
 
 def same(one, other):
@@ -22,10 +28,17 @@ def same(one, other):
         return False
     if isinstance(one, (list, tuple)):
         return len(one) == len(other) and all(same(a, b) for a, b in zip(one, other))
+    if isinstance(one, dict):
+        return len(one) == len(other) and all(key in other and same(one[key], other[key]) for key in one)
     return one == other
 
 
 class Checks(unittest.TestCase):
+    def refused_first(self, error, fields, works):
+        """The first item of each of these generators raises just this error, or its call."""
+        for work in works:
+            self.refused(error, fields, lambda: next(iter(work())))
+
     def refused(self, error, fields, work, *values, **named):
         """work raises just this error, with these fields in their order."""
         with self.assertRaises(error) as held:

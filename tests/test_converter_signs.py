@@ -4,8 +4,7 @@ from itertools import product
 
 from headgap.converters import Converter
 from headgap.errors import BadConverter, BadNumber, Taken, TooMany
-from headgap.growths import Growth
-from tests.checks import ANYTHING, LINES, Checks
+from tests.checks import ANYTHING, LINES, NO_CONVERTERS, WITH_SIGNS, Checks
 
 ODD = Converter.read("@p p:a>x>q q:a>>p p$")
 BACK = Converter.read("@s s:a>a>s s:r>>t t:n>n>s s$")
@@ -14,7 +13,6 @@ SWAP = Converter.read("@x x:a>r>y x:n>an>x y:a>a>x y:n>>z z:n>n>x x$ y$r")
 ENDS = Converter.read("@s s:a>nn>s s:n>>t t:a>r>s s$na t$")
 OTHERS = Converter.read("@m k:c>>m m:b>ab>k k$ m$c")
 CONVERTERS = (LINES, ODD, BACK, PACKS, SWAP, ENDS)
-NO_CONVERTERS = [value for value in ANYTHING if not isinstance(value, Converter)]
 
 
 def circle(many, letter, answer=""):
@@ -181,7 +179,7 @@ class Repeated(Checks):
         for value in [*ANYTHING, 5, -1]:
             if type(value) is not int or value not in (0, 1):
                 self.refused(BadNumber, [value], lambda: LINES * value)
-                if not isinstance(value, Growth):
+                if not isinstance(value, WITH_SIGNS):
                     self.refused(BadNumber, [value], lambda: value * LINES)
 
 

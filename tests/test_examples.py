@@ -36,17 +36,48 @@ raises NoStep(1, 's')
 raises BadText(0, 2)
 '''
 
-# Of the section of headgap/joins.py what the signs tell.
-SIGNS = '''
+RUNS = '''
+>>> from headgap.runs import climbs, least_text, run, texts, useful
+>>> packs = Converter("s", {("s", "a"): ("", "t"), ("t", "a"): ("b", "s"), ("t", "c"): ("", "u")}, {"s": "", "t": "aa"})
+>>> [run(packs, "aaa"), climbs(packs, "aaa"), useful(packs), packs.takes("aac")]
+[('s', 't', 's', 't'), (0, -1, -1, -2), ('s', 't'), False]
+>>> [list(texts(lines, 2)), list(texts(packs, 3)), least_text(packs), len(list(texts(lines, 5)))]
+[['aa', 'an', 'na', 'nn'], ['aaa'], '', 32]
+>>> run(packs, "ab")
+raises NoStep(1, 't')
+'''
+
+RINGS = '''
+>>> from headgap.rates import Rate
+>>> from headgap.rings import Mean, Ring, greatest_mean, ring_rate, rings, shows_mean
+>>> [str(Rate(6, 4)), Rate(6, 4) == Rate(3, 2), Rate(1, 2) + 1 > Rate(4, 3), str(2 - Rate(1, 2)), Rate(-1, 2).floor, Rate.read("3/2") * 2 == 3]
+['3/2', True, True, '3/2', -1, True]
+>>> [[ring.state, ring.text] for ring in rings(lines)]
+[['s', 'a'], ['s', 'n']]
+>>> told = greatest_mean(lines)
+>>> [str(told.rate), shows_mean(lines, told), shows_mean(lines, Mean(Rate(2), Ring("s", "nn"), {"s": 5})), shows_mean(lines, Mean(Rate(1), Ring("s", "a"), {"s": 0})), str(ring_rate(lines, Ring("s", "an")))]
+['2', True, True, False, '3/2']
+>>> Rate.read("2/4")
+raises BadText(0, 0)
+'''
+
+JOINS = '''
+>>> from headgap.joins import beside, common, joined, repeated
 >>> back = Converter("s", {("s", "a"): ("a", "s"), ("s", "r"): ("", "t"), ("t", "n"): ("n", "s")}, {"s": ""})
 >>> [str(lines >> back), (lines >> back)("ana") == "ana", str(lines >> lines.narrowed("a")), str(lines * 2)]
 ['@a a:a>a>a a:n>n>a a$', True, '@a a:a>a>a a$', '@s s:a>aa>s s:n>rnrn>s s$']
->>> [str(lines & odd), str(lines | Converter("x", {("x", "b"): ("", "x")}, {"x": "z"}))]
+>>> [str(common(lines, odd)), str(beside(lines, Converter("x", {("x", "b"): ("", "x")}, {"x": "z"})))]
 ['@a a:a>a>b b:a>a>a a$', '@a a:a>a>a a:b>>a a:n>rn>a a$z']
 >>> lines | lines
 raises Taken('a')
 >>> lines >> (lines * 3)
 raises TooMany('answer', 4)
+'''
+
+# The same by the signs alone.
+SIGNS = '''
+>>> [str(lines & odd), str(lines | Converter("x", {("x", "b"): ("", "x")}, {"x": "z"}))]
+['@a a:a>a>b b:a>a>a a$', '@a a:a>a>a a:b>>a a:n>rn>a a$z']
 '''
 
 
@@ -75,6 +106,15 @@ class Examples(unittest.TestCase):
 
     def test_converters(self):
         self.check(CONVERTERS)
+
+    def test_runs(self):
+        self.check(CONVERTERS, RUNS)
+
+    def test_rates_and_rings(self):
+        self.check(CONVERTERS, RINGS)
+
+    def test_joins(self):
+        self.check(CONVERTERS, JOINS)
 
     def test_signs(self):
         self.check(CONVERTERS, SIGNS)

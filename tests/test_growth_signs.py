@@ -2,7 +2,8 @@
 
 from headgap.errors import BadGrowth, BadNumber, TooMany
 from headgap.growths import Growth
-from tests.checks import ANYTHING, LINES, TWICE, Checks
+from headgap.rates import Rate
+from tests.checks import ANYTHING, LINES, TWICE, WITH_SIGNS, Checks
 from tests.plain_growths import normal, row, small_rows
 
 NO_INTEGERS = [value for value in ANYTHING if type(value) is not int]
@@ -201,21 +202,23 @@ class Refused(Checks):
         for value in NO_GROWTHS:
             for work in (lambda: TWICE | value, lambda: TWICE & value, lambda: value | TWICE, lambda: value & TWICE,
                          lambda: TWICE <= value, lambda: TWICE.first_above(value)):
-                if not isinstance(value, type(LINES)):
+                if not isinstance(value, WITH_SIGNS):
                     self.refused(BadGrowth, ["other"], work)
             if type(value) is not int:
                 self.refused(BadGrowth, ["other"], lambda: TWICE + value)
                 self.refused(BadGrowth, ["other"], lambda: TWICE - value)
+            if type(value) is not int and not isinstance(value, WITH_SIGNS):
                 self.refused(BadGrowth, ["other"], lambda: value + TWICE)
                 self.refused(BadGrowth, ["other"], lambda: value - TWICE)
-        for work in (lambda: TWICE | LINES, lambda: TWICE & LINES, lambda: TWICE <= LINES):
-            self.refused(BadGrowth, ["other"], work)
+        for value in (LINES, Rate(1)):
+            for work in (lambda: TWICE | value, lambda: TWICE & value, lambda: TWICE <= value):
+                self.refused(BadGrowth, ["other"], work)
         self.refused(BadGrowth, ["other"], lambda: TWICE.first_above(other=5))
 
     def test_no_numbers(self):
         for value in NO_INTEGERS:
             self.refused(BadNumber, [value], lambda: TWICE * value)
-            if not isinstance(value, type(LINES)):
+            if not isinstance(value, WITH_SIGNS):
                 self.refused(BadNumber, [value], lambda: value * TWICE)
             self.refused(BadNumber, [value], TWICE.raised, value)
 

@@ -24,6 +24,11 @@ __init__ __eq__ __repr__ __str__ __len__ __enter__ __exit__ __call__ __iter__ __
 __add__ __sub__ __mul__ __floordiv__ __mod__ __pow__ __and__ __or__ __xor__ __lshift__ __rshift__ __radd__ __rsub__
 __rmul__ __rand__ __ror__ __rxor__ __rlshift__ __rrshift__ __iadd__ __isub__ __imul__ __iand__ __ior__ __neg__ __pos__
 __invert__ __abs__ __bool__ __contains__ __getitem__ __setitem__""".split())
+INTERFACE = {
+    "errors.py": "HeadError", "papers.py": "Verdict", "growths.py": "Growth", "converters.py": "Converter",
+    "runs.py": "run climbs useful texts least_text", "rates.py": "Rate",
+    "rings.py": "Ring Mean rings ring_rate greatest_mean shows_mean", "joins.py": "joined beside common repeated",
+}
 NUMBERS_AND_STRINGS = {"len", "int", "ord", "str", "repr"}
 
 
@@ -136,7 +141,14 @@ class Language(unittest.TestCase):
             self.assertNotIn(node.arg, known | NEVER, place)
             self.assertIsNone(node.annotation, place)
         for place, node in self.nodes(ast.Attribute):
-            self.assertFalse(node.attr.startswith("_") or node.attr in NEVER, f"{place}: {node.attr}")
+            self.assertNotIn(node.attr, NEVER, place)
+            if node.attr.startswith("_"):
+                self.assertRegex(ast.unparse(node), r"\A[a-z.]+\.__class__(\.__name__)?\Z", place)
+
+    def test_classes_are_read_for_their_names_alone(self):
+        names = [node.value for place, node in self.nodes(ast.Attribute) if node.attr == "__name__"]
+        read = [node for place, node in self.nodes(ast.Attribute) if node.attr == "__class__"]
+        self.assertEqual(len(names), len(read))
 
     def test_sorted_min_and_max_beside_an_order(self):
         for place, node in self.nodes(ast.Call):
@@ -146,7 +158,19 @@ class Language(unittest.TestCase):
                 self.assertTrue(good, place)
 
     def test_interface_is_defined_in_its_files(self):
-        told = {"errors.py": ["HeadError"], "papers.py": ["Verdict"], "growths.py": ["Growth"], "converters.py": ["Converter"]}
-        for name, text in files():
-            classes = [node.name for node in ast.parse(text).body if isinstance(node, ast.ClassDef)]
-            self.assertLessEqual(set(told.get(name, [])), set(classes), name)
+        made = {name: {node.name for node in ast.parse(text).body if isinstance(node, (ast.ClassDef, ast.FunctionDef))}
+                for name, text in files()}
+        for name, told in INTERFACE.items():
+            self.assertLessEqual(set(told.split()), made[name], name)
+
+    def test_generators(self):
+        names = [node.name for place, node in self.nodes(ast.FunctionDef)]
+        for place, node in self.nodes(ast.FunctionDef):
+            if any(isinstance(part, (ast.Yield, ast.YieldFrom)) for part in ast.walk(node)):
+                self.assertEqual(names.count(node.name), 1, place)
+                self.assertFalse(node.decorator_list or node.name.startswith("_"), place)
+
+    def test_nothing_sorts_in_place(self):
+        # Rates and growths compare, so nothing sorts itself in place.
+        for place, node in self.nodes(ast.Attribute):
+            self.assertNotEqual(node.attr, "sort", place)
