@@ -2,7 +2,7 @@
 
 from math import lcm
 
-from headgap.errors import BadText
+from headgap.errors import BadText, TooMany
 from headgap.kinds import is_number
 
 MOST_GAINS = 60
@@ -36,12 +36,14 @@ def leads(value, later, gain):
 
 def is_period(tail, climbs, period):
     """Whether values that go on for ever by these climbs already repeat within a part of their length."""
+    if climbs[period:] != climbs[:len(climbs) - period]:
+        return False
     parts = len(tail) // period
-    for k in range(len(tail) - period):
-        value, later = tail[k], tail[k + period]
-        if (value is None) != (later is None) or climbs[k] != climbs[k + period]:
-            return False
-        if value is not None and (later - value) * parts != climbs[k]:
+    for value, later, climb in zip(tail, tail[period:], climbs):
+        if value is None or later is None:
+            if value is not None or later is not None:
+                return False
+        elif (later - value) * parts != climb:
             return False
     return True
 
@@ -127,25 +129,53 @@ def last_leader(first, climb, second, rise):
     return first, climb, -((first - second) // (climb - rise))
 
 
-def greater(one, other):
-    """The rows of the greater one of two growths."""
-    many, begin = common_period(one, other), common_begin(one, other)
-    leaders = []
-    end = begin
-    for n in range(begin, begin + many):
-        first, second = value_at(one.told, one.gains, n), value_at(other.told, other.gains, n)
-        value, climb, rounds = last_leader(first, gain_over(one, n, many), second, gain_over(other, n, many))
-        leaders.append((value, climb))
+def tail_rows(growth, begin, many):
+    """The values from begin on, so many, a multiple of the period, and what each gains within so many places."""
+    period = len(growth.gains)
+    first = [value_at(growth.told, growth.gains, n) for n in range(begin, begin + period)]
+    gains = [growth.gains[n % period] for n in range(begin, begin + period)]
+    tail = []
+    for k in range(many // period):
+        tail.extend([None if value is None else value + k * gain for value, gain in zip(first, gains)])
+    return tail, [gain * (many // period) for gain in gains] * (many // period)
+
+
+def leading_rows(one, other, begin, many, is_kept):
+    """The values and the climbs that win in the end, and the last place at which the winner is still behind."""
+    ones, climbs = tail_rows(one, begin, many)
+    others, rises = tail_rows(other, begin, many)
+    tail = []
+    gains = []
+    last = begin - 1
+    for k in range(many):
+        second = None if is_kept and ones[k] is None else others[k]
+        value, climb, rounds = last_leader(ones[k], climbs[k], second, rises[k])
+        tail.append(value)
+        gains.append(climb)
         if rounds > 0:
-            end = max(int(end), n + rounds * many)
-    # Growths can cross later than any list is long. Values that go on from here as in the end still have the
-    # same period, and as they break off behind the last place that can be told, they are too many as well.
-    end = min(int(end), MOST_TOLD + many)
-    told = [greater_value(value_at(one.told, one.gains, n), value_at(other.told, other.gains, n)) for n in range(end)]
-    for n in range(end, end + many):
-        value, climb = leaders[(n - begin) % many]
-        told.append(None if value is None else value + climb * ((n - begin) // many))
-    return told, [leaders[(rest - begin) % many][1] for rest in range(many)]
+            last = max(int(last), begin + k + (rounds - 1) * many)
+    return tail, gains, last
+
+
+def greater(one, other, is_kept):
+    """The rows of the greater one of two growths; None of the first one stays, if it is kept. Raises TooMany."""
+    many, begin = common_period(one, other), common_begin(one, other)
+    tail, climbs, last = leading_rows(one, other, begin, many, is_kept)
+    period = least_period(tail, climbs)
+    if period > MOST_GAINS:
+        raise TooMany("period", MOST_GAINS)
+    # Growths can cross later than any list is long. Where the winner is still behind, the value cannot go on by its
+    # gain, so the normal form tells all up to there, and one period more: too many are refused before they are made.
+    if last >= begin and last + 1 + period > MOST_TOLD:
+        raise TooMany("told", MOST_TOLD)
+    told = []
+    for n in range(last + 1):
+        first, second = value_at(one.told, one.gains, n), value_at(other.told, other.gains, n)
+        told.append(None if is_kept and first is None else greater_value(first, second))
+    gains = [climbs[(rest - begin) % many] * period // many for rest in range(period)]
+    for n in range(last + 1, last + 1 + period):
+        told.append(value_at(tail, climbs, n - begin))
+    return told, gains
 
 
 def rounds_until_above(first, climb, second, rise):

@@ -119,8 +119,8 @@ class Growth:
 
     def raised(self, k):
         """Each value below k is k; None stays."""
-        # The sum with the noughts of this growth brings its None back, which the greater one does not keep.
-        return (self | Growth.constant(k)) + self * 0
+        told, gains = greater(self, Growth.constant(k), True)
+        return Growth(told, gains)
 
     def first_above(self, other):
         """The least n at which this growth has an integer and other has none, or a less one; None if none is."""
@@ -187,8 +187,8 @@ class Growth:
     def __or__(self, other):
         if not isinstance(other, Growth):
             raise BadGrowth("other")
-        told, gains = greater(self, other)
-        return made(told, gains)
+        told, gains = greater(self, other, False)
+        return Growth(told, gains)
 
     def __ror__(self, other):
         raise BadGrowth("other")
