@@ -83,4 +83,6 @@ class Rate:
         return Rate(self.upper * other, self.lower)
 
     def __str__(self):
-        return str(self.upper) if self.lower == 1 else f"{self.upper}/{self.lower}"
+        if self.lower == 1:
+            return str(self.upper)
+        return f"{self.upper}/{self.lower}"

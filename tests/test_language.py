@@ -57,6 +57,38 @@ def is_plain_row(node):
     return isinstance(node, ast.ListComp) and is_plain(node.elt)
 
 
+def is_call_of(node, *names):
+    return isinstance(node, ast.Call) and isinstance(node.func, ast.Name) and node.func.id in names
+
+
+def is_string(node):
+    return isinstance(node, ast.Constant) and isinstance(node.value, str)
+
+
+def is_told_text(node):
+    """Whether __str__ and __repr__ may return it: a string, an f-string, str(..), repr(..), the join of a literal."""
+    joins = (isinstance(node, ast.Call) and isinstance(node.func, ast.Attribute) and node.func.attr == "join"
+             and is_string(node.func.value))
+    return joins or is_string(node) or isinstance(node, ast.JoinedStr) or is_call_of(node, "str", "repr")
+
+
+def is_told_length(node):
+    """Whether __len__ may return it: len(..) or a literal number."""
+    return is_call_of(node, "len") or (isinstance(node, ast.Constant) and type(node.value) is int)
+
+
+def wrong_returns(text):
+    """The lines of a file at which a __str__, __repr__ or __len__ does not return as the rule L28 says."""
+    found = []
+    for node in ast.walk(ast.parse(text)):
+        if isinstance(node, ast.FunctionDef) and node.name in ("__str__", "__repr__", "__len__"):
+            good = is_told_length if node.name == "__len__" else is_told_text
+            if not isinstance(node.body[-1], ast.Return):
+                found.append(node.lineno)
+            found.extend(part.lineno for part in ast.walk(node) if isinstance(part, ast.Return) and not good(part.value))
+    return found
+
+
 class Language(unittest.TestCase):
     def nodes(self, *kinds):
         for name, text in files():
@@ -169,6 +201,23 @@ class Language(unittest.TestCase):
             if any(isinstance(part, (ast.Yield, ast.YieldFrom)) for part in ast.walk(node)):
                 self.assertEqual(names.count(node.name), 1, place)
                 self.assertFalse(node.decorator_list or node.name.startswith("_"), place)
+
+    def test_returns_of_str_repr_and_len(self):
+        for name, text in files():
+            self.assertEqual(wrong_returns(text), [], name)
+
+    def test_returns_that_are_told(self):
+        for line in ("return 'a'", "return f'{self.n}'", "return str(self.n)", "return repr(self.n)", "return ' '.join(xs)"):
+            for name in ("__str__", "__repr__"):
+                self.assertEqual(wrong_returns(f"class C:\n def {name}(self):\n  {line}"), [], line)
+        for line in ("return 'a' if self.n else 'b'", "return self.n", "return self.n.join(xs)", "return 'a' + 'b'", "return",
+                     "return 1", "return len(self.n)", "return told(self.n)", "return (lambda: 1)()", "pass",
+                     "def inner(): return 1\n  return 'a'", "if self.n: return self.n\n  return 'a'"):
+            for name in ("__str__", "__repr__"):
+                self.assertEqual(len(wrong_returns(f"class C:\n def {name}(self):\n  {line}")), 1, line)
+        for line, many in (("return len(self.n)", 0), ("return 3", 0), ("return self.n", 1), ("return True", 1),
+                           ("return len(self.n) + 1", 1), ("return 'a'", 1), ("if self.n: return self.n\n  return 0", 1)):
+            self.assertEqual(len(wrong_returns(f"class C:\n def __len__(self):\n  {line}")), many, line)
 
     def test_nothing_sorts_in_place(self):
         # Rates and growths compare, so nothing sorts itself in place.

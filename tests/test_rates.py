@@ -122,6 +122,15 @@ class Written(Checks):
         for one in PARTS:
             self.equal(str(Rate(*one)), str(Fraction(*one)))
 
+    def test_str_of_each_kind(self):
+        nines = "9" * 70
+        for upper, lower, told in [
+                (3, 2, "3/2"), (6, 4, "3/2"), (-3, 2, "-3/2"), (1, 7, "1/7"), (-1, 60, "-1/60"), (3, 1, "3"), (6, 2, "3"),
+                (-6, 2, "-3"), (1, 1, "1"), (0, 1, "0"), (0, 9, "0"), (10 ** 60, 1, "1" + "0" * 60),
+                (-(10 ** 60), 3, "-1" + "0" * 60 + "/3"), (1, 10 ** 61, "1/1" + "0" * 61), (int(nines), 7, nines + "/7"),
+                (int(nines), 10 ** 70, nines + "/1" + "0" * 70), (-int(nines), int(nines), "-1")]:
+            self.equal((str(Rate(upper, lower)), f"{Rate(upper, lower)}"), (told, told))
+
     def test_read(self):
         for upper, lower in [*PARTS[:-3], (-(10 ** 60 - 1), 10 ** 60 - 2), (10 ** 60 - 1, 1), (0, 1)]:
             rate = Rate.read(str(Fraction(upper, lower)))
