@@ -3,9 +3,11 @@
 import unittest
 
 from headgap.converters import Converter
+from headgap.gaps import Enough, Never
 from headgap.growths import Growth
 from headgap.rates import Rate
 from headgap.rings import Mean, Ring
+from headgap.sizes import Table
 
 LINES = Converter("s", {("s", "a"): ("a", "s"), ("s", "n"): ("rn", "s")}, {"s": ""})
 TWICE = Growth.ramp(2)
@@ -15,11 +17,13 @@ ANYTHING = (
     None, True, False, 0, 1, 5, -1, 10 ** 30, "", "a", "abcdefgh", "abcdefghi", "A", "a b", "a\n", "1", "-", " ",
     (), ("a",), ("a", "b"), (1, 2), [], ["a", "b"], [1], {}, {"a": 1}, {("s", "a"): ("a", "s")},
     [[[[[[[[]]]]]]]], LINES, TWICE, Rate(3, 2), Rate(1), Ring("s", "n"), Mean(Rate(2), Ring("s", "n"), {"s": 0}),
+    Table({"s": TWICE}), Table({}), Enough(0, {"s": 0}, "a"), Enough(None, [1], True), Never("", "n", ""),
 )
 # What decides by itself what its signs mean, also as a left operand.
 WITH_SIGNS = (Converter, Growth, Rate)
 NO_CONVERTERS = [value for value in ANYTHING if not isinstance(value, Converter)]
 NO_TEXTS = [value for value in ANYTHING if value not in ("", "a", "abcdefgh", "abcdefghi")] + ["a" * 401]
+NO_INTEGERS = [value for value in ANYTHING if type(value) is not int]
 
 
 def same(one, other):

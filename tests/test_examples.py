@@ -74,6 +74,39 @@ raises Taken('a')
 raises TooMany('answer', 4)
 '''
 
+SIZES = '''
+>>> from headgap.converters import Converter
+>>> from headgap.sizes import Table, burst, least, longest, table, text_for
+>>> from headgap.look_sizes import shows_table
+>>> lines = Converter("s", {("s", "a"): ("a", "s"), ("s", "n"): ("rn", "s")}, {"s": ""})
+>>> stuff = Converter.read("@p p:a>a>q p:b>b>p q:a>a>r q:b>b>p r:a>a>s r:b>b>p s:a>a>t s:b>b>p t:a>ab>p t:b>b>p p$ q$ r$ s$ t$")
+>>> [str(longest(lines)), str(least(lines)), longest(stuff) == stairs, str(burst(stuff)), text_for(stuff, 6)]
+['0 ; 2', '0 ; 1', True, '0 2 3 4 5 ; 6 6 6 6 6', 'aaaaaa']
+>>> [str(table(stuff, "longest").growths["t"]), str(table(lines, "gap").growths["s"]), shows_table(lines, "longest", Table({"s": Growth.ramp(2)})), shows_table(lines, "longest", Table({"s": Growth.ramp(3)}))]
+['0 2 3 4 5 ; 6 6 6 6 6', '0 0 ; 1', True, False]
+>>> odds = Converter.read("@s s:a>bb>t t:a>>s t$c")
+>>> [str(longest(odds)), text_for(odds, 3), str(longest(Converter.read("@s s:a>a>s")))]
+['- 3 ; 0 2', 'aaa', '- ; 0']
+>>> text_for(odds, 2)
+raises NoText(2)
+'''
+
+GAPS = '''
+>>> from headgap.gaps import Enough, Never, gap, gap_for, gap_of, safe_length
+>>> from headgap.look_gaps import shows_gap
+>>> percent = Converter.read("@z u:f>>v v:f>x>z z:p>>u z:x>x>z z$")
+>>> [gap_of(lines, "nna"), gap_of(lines, "ann"), gap_of(stuff, "aaaaa"), gap_of(stuff, "aaaaab"), gap_of(percent, "pffx"), gap_of(lines, "")]
+[2, 1, 0, 1, 0, 0]
+>>> [bool(gap(lines)), bool(gap(percent)), gap(percent).number, str(gap_for(lines)), str(gap_for(stuff)), str(gap_for(percent))]
+[False, True, 0, '0 0 ; 1', '0 0 0 0 0 0 ; 1 1 1 1 1', '0 ; 0']
+>>> [shows_gap(percent, Enough(0, {"z": 0, "u": -1, "v": -2}, "xx")), shows_gap(percent, Enough(0, {"z": 0, "u": 0, "v": 0}, "")), shows_gap(percent, Enough(1, {"z": 1, "u": 0, "v": 0}, "xx")), shows_gap(lines, Never("a", "an", ""))]
+[True, True, False, True]
+>>> [safe_length(lines, 3), safe_length(stuff, 0), safe_length(percent, 0)]
+[4, 5, None]
+>>> gap_of(percent, "pf")
+raises NoTail('v')
+'''
+
 # The same by the signs alone.
 SIGNS = '''
 >>> [str(lines & odd), str(lines | Converter("x", {("x", "b"): ("", "x")}, {"x": "z"}))]
@@ -115,6 +148,12 @@ class Examples(unittest.TestCase):
 
     def test_joins(self):
         self.check(CONVERTERS, JOINS)
+
+    def test_sizes(self):
+        self.check(GROWTHS, CONVERTERS, SIZES)
+
+    def test_gaps(self):
+        self.check(GROWTHS, CONVERTERS, SIZES, GAPS)
 
     def test_signs(self):
         self.check(CONVERTERS, SIGNS)

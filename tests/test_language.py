@@ -28,6 +28,8 @@ INTERFACE = {
     "errors.py": "HeadError", "papers.py": "Verdict", "growths.py": "Growth", "converters.py": "Converter",
     "runs.py": "run climbs useful texts least_text", "rates.py": "Rate",
     "rings.py": "Ring Mean rings ring_rate greatest_mean shows_mean", "joins.py": "joined beside common repeated",
+    "sizes.py": "longest least burst table Table text_for", "look_sizes.py": "shows_table",
+    "gaps.py": "gap_of gap Enough Never gap_for safe_length", "look_gaps.py": "shows_gap",
 }
 NUMBERS_AND_STRINGS = {"len", "int", "ord", "str", "repr"}
 
@@ -194,6 +196,17 @@ class Language(unittest.TestCase):
                 for name, text in files()}
         for name, told in INTERFACE.items():
             self.assertLessEqual(set(told.split()), made[name], name)
+
+    def test_locals_hide_no_import_and_no_class(self):
+        for name, text in files():
+            tree = ast.parse(text)
+            taken = {part.name for node in tree.body if isinstance(node, ast.ImportFrom) for part in node.names}
+            taken |= {node.name for node in tree.body if isinstance(node, ast.ClassDef)}
+            for node in ast.walk(tree):
+                if isinstance(node, ast.arg):
+                    self.assertNotIn(node.arg, taken, f"{name}:{node.lineno}")
+                if isinstance(node, ast.Name) and isinstance(node.ctx, ast.Store):
+                    self.assertNotIn(node.id, taken, f"{name}:{node.lineno}")
 
     def test_generators(self):
         names = [node.name for place, node in self.nodes(ast.FunctionDef)]
