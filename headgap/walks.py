@@ -17,12 +17,17 @@ def step_graph(converter):
 
 
 def turned(graph):
-    """The graph with each way turned round, so that what fell rises."""
+    """The graph with each way turned round."""
     found = {node: [] for node in graph}
     for node in graph:
         for letter, weight, to in graph[node]:
-            found[to].append((letter, -weight, node))
+            found[to].append((letter, weight, node))
     return found
+
+
+def lowered(graph):
+    """The graph in which what rose falls, and what fell rises."""
+    return {node: [(letter, -weight, to) for letter, weight, to in graph[node]] for node in graph}
 
 
 def part_of(graph, nodes):

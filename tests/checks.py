@@ -2,7 +2,9 @@
 
 import unittest
 
+from headgap.arrays import Beyond, Fits
 from headgap.converters import Converter
+from headgap.cuts import Cut, EndlessCut
 from headgap.gaps import Enough, Never
 from headgap.growths import Growth
 from headgap.rates import Rate
@@ -18,6 +20,7 @@ ANYTHING = (
     (), ("a",), ("a", "b"), (1, 2), [], ["a", "b"], [1], {}, {"a": 1}, {("s", "a"): ("a", "s")},
     [[[[[[[[]]]]]]]], LINES, TWICE, Rate(3, 2), Rate(1), Ring("s", "n"), Mean(Rate(2), Ring("s", "n"), {"s": 0}),
     Table({"s": TWICE}), Table({}), Enough(0, {"s": 0}, "a"), Enough(None, [1], True), Never("", "n", ""),
+    Fits(0, {}, {"s": 0}, "nn"), Beyond("", "n", "", "a", ""), Cut(0, {("s", "s"): 0}, "a", 1), EndlessCut("a", 1, "a", ""),
 )
 # What decides by itself what its signs mean, also as a left operand.
 WITH_SIGNS = (Converter, Growth, Rate)

@@ -17,7 +17,7 @@ ONLY_EMPTY = Converter.read("@s s:a>a>t t:a>aaaa>t s$zz")
 JUST_TAIL = Converter("s", {}, {"s": "abcd"})
 # Texts of at most three letters; x has a tail and no step behind it.
 FINITE = Converter.read("@s s:a>a>t s:b>>u t:a>bbbb>u t:c>>u u:b>b>x s$ u$x x$")
-# The way on from u ends nowhere, x is not come to, and the step of t by d leads from the tails.
+# The ways on from u end nowhere, although x, which is not come to, has a tail.
 TRAP = Converter.read("@s s:a>xx>t t:a>>s t:b>y>s t:c>>u u:a>wwww>u x:a>wwww>x s$ x$")
 # Two rings of unlike lengths and slopes behind the start: of six rests two have no text for ever, and those that both
 # rings can end have the slope of the steeper one.
@@ -28,6 +28,17 @@ LATE = Converter.read("@s s:a>xxxx>t s:b>>v t:a>yyy>u u:a>>t v:b>>w w:b>y>x x:b>
 SHARED = Converter.read("@a a:a>www>b b:a>www>c c:a>www>d d:a>www>e e:a>www>f e:b>wwww>a f:a>wwww>a a$ c$x")
 # A ring of five states that rises by one, and ways that rise sooner.
 RISING = Converter.read("@a a:p>xxxx>b b:p>>c b:q>xxxx>f c:p>>d d:p>x>e e:p>x>a f:q>x>f a$ f$")
+# A ring of s rises, and one of t, behind it, falls; or the other way round, so that not both can be repeated.
+UP_DOWN = Converter.read("@s s:a>xx>s s:b>x>t t:a>>t t:c>xx>u u:a>xx>t s$ t$ u$pp")
+DOWN_UP = Converter.read("@s s:a>>s s:b>x>t t:a>xx>t t:c>>u u:c>xx>t s$ t$ u$")
+# Both through one state: a rises, b falls.
+THROUGH = Converter.read("@s s:a>xx>t s:b>>u t:a>x>s u:b>x>s s$pppp")
+# A ring falls ahead of one that rises and one that falls; or one rises behind such two.
+AROUND = Converter.read("@z s:a>xx>s s:b>x>u u:a>>u z:a>>z z:b>x>s u$")
+BEHIND = Converter.read("@a a:a>xx>a a:b>x>b b:a>>b b:b>x>z z:a>xx>z z$")
+# The ring falls, a way beside it rises by nine and comes to the ring; and the ring rises, the ways behind it fall.
+HIGH = Converter.read("@s s:a>xxxx>t t:a>xxxx>u u:a>xxxx>v v:a>>v v:b>x>w v$ w$pp")
+DEEP = Converter.read("@v s:a>>t t:a>>u u:a>>w v:a>xx>v v:b>>s w:b>x>w v$x w$")
 # Six states, four letters, answers of none and of four.
 SIX = Converter.read(
     "@a a:a>w>f a:b>>d a:x>w>c a:z>www>d b:a>wwww>c b:b>www>f b:x>wwww>c b:z>wwww>f c:a>wwww>e c:b>wwww>e c:x>>a "
@@ -35,7 +46,7 @@ SIX = Converter.read(
     "f:x>www>c f:z>w>a a$")
 
 EDGES = [PACKS, PERCENT, STUFF, ODDS, BOTH, NO_TAIL, NO_WAY, ONLY_EMPTY, JUST_TAIL, FINITE, TRAP, RESTS, LATE, SHARED,
-         RISING, SIX]
+         RISING, UP_DOWN, DOWN_UP, THROUGH, AROUND, BEHIND, HIGH, DEEP, SIX]
 EMPTY = [NO_TAIL, NO_WAY]
 
 

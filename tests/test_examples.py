@@ -107,6 +107,39 @@ GAPS = '''
 raises NoTail('v')
 '''
 
+ARRAYS = '''
+>>> from headgap.arrays import Beyond, Fits, array_for, array_of, extra, extra_for, extra_of, fits_in
+>>> from headgap.look_arrays import shows_extra
+>>> both = Converter.read("@x x:a>a>x x:b>b>y x:n>rn>x y:a>a>x y:b>>y y:n>rn>x x$ y$")
+>>> [array_of(lines, "nna"), extra_of(lines, "nna"), array_of(both, "nnnbbbb"), extra_of(both, "nnnbbbb"), extra_for(both, 7), extra_for(both, 1)]
+[5, 0, 10, 3, 3, 0]
+>>> [str(array_for(lines)), str(array_for(percent)), fits_in(lines, 9), fits_in(odds, 2), bool(extra(lines)), bool(extra(both))]
+['0 ; 2', '0 ; 1', 4, 0, True, False]
+>>> [shows_extra(lines, Fits(0, {}, {"s": 0}, "nn")), shows_extra(lines, Fits(0, {"s": 0}, {}, "nn")), shows_extra(both, Beyond("", "n", "b", "b", "")), shows_extra(both, Beyond("", "n", "", "b", ""))]
+[True, False, True, False]
+>>> extra(Converter.read("@s s:a>a>s"))
+raises NoText(None)
+'''
+
+BURSTS = '''
+>>> from headgap.bursts import surely_taken
+>>> [surely_taken(lines, 5), surely_taken(lines, 0), surely_taken(packs, 1), surely_taken(packs, 0)]
+[2, 0, 2, 0]
+'''
+
+# Those of look_cuts are still to come; here stands what else their rows show.
+CUTS = '''
+>>> from headgap.cuts import Cut, EndlessCut, cost, dearest_cut, pieces
+>>> evens = Converter("s", {("s", "a"): ("x", "t"), ("t", "a"): ("x", "s")}, {"s": "", "t": "yy"})
+>>> [pieces(evens, "aaa", 1, 1), cost(evens, "aa", 1), cost(evens, "aaa", 1), dearest_cut(evens).number]
+[('xyy', '', 'xx'), 4, 0, 4]
+>>> modes = Converter("s", {("s", "b"): ("", "t"), ("s", "a"): ("aa", "s"), ("t", "a"): ("a", "t")}, {"s": "", "t": ""})
+>>> [dearest_cut(lines).number, bool(dearest_cut(modes)), cost(modes, "baaa", 1)]
+[0, False, 3]
+>>> pieces(evens, "aa", 2, 1)
+raises BadNumber(1)
+'''
+
 # The same by the signs alone.
 SIGNS = '''
 >>> [str(lines & odd), str(lines | Converter("x", {("x", "b"): ("", "x")}, {"x": "z"}))]
@@ -154,6 +187,15 @@ class Examples(unittest.TestCase):
 
     def test_gaps(self):
         self.check(GROWTHS, CONVERTERS, SIZES, GAPS)
+
+    def test_arrays(self):
+        self.check(GROWTHS, CONVERTERS, SIZES, GAPS, ARRAYS)
+
+    def test_bursts(self):
+        self.check(CONVERTERS, RUNS, BURSTS)
+
+    def test_cuts(self):
+        self.check(CONVERTERS, CUTS)
 
     def test_signs(self):
         self.check(CONVERTERS, SIGNS)

@@ -30,6 +30,8 @@ INTERFACE = {
     "rings.py": "Ring Mean rings ring_rate greatest_mean shows_mean", "joins.py": "joined beside common repeated",
     "sizes.py": "longest least burst table Table text_for", "look_sizes.py": "shows_table",
     "gaps.py": "gap_of gap Enough Never gap_for safe_length", "look_gaps.py": "shows_gap",
+    "arrays.py": "array_of extra_of extra array_for fits_in Fits Beyond extra_for", "look_arrays.py": "shows_extra",
+    "bursts.py": "surely_taken", "cuts.py": "cost pieces dearest_cut Cut EndlessCut",
 }
 NUMBERS_AND_STRINGS = {"len", "int", "ord", "str", "repr"}
 
