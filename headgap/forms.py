@@ -21,17 +21,21 @@ def value_at(told, gains, n):
     return first + rounds * gains[n % many]
 
 
+def values_to(growth, length):
+    """The first values of a growth, so many."""
+    told, many = growth.told, len(growth.gains)
+    if length <= len(told):
+        return told[:length]
+    rests = [(told[n], growth.gains[n % many]) for n in range(len(told) - many, len(told))]
+    rounds = (length - len(told) - 1) // many + 1
+    later = [None if value is None else value + k * gain for k in range(1, rounds + 1) for value, gain in rests]
+    return [*told, *later][:length]
+
+
 def lasting_gains(told, gains):
     """The gains of the rests that are not None for ever."""
     many = len(gains)
     return [gains[n % many] for n in range(len(told) - many, len(told)) if told[n] is not None]
-
-
-def leads(value, later, gain):
-    """Whether a value one period ahead of a later one gives it by this gain."""
-    if value is None:
-        return later is None
-    return value + gain == later
 
 
 def is_period(tail, climbs, period):
@@ -57,6 +61,20 @@ def least_period(tail, climbs):
     return many
 
 
+def begin_back(told, begin, gains):
+    """From where on values go on by these gains, if they surely do so from begin on."""
+    many = len(gains)
+    while begin > 0:
+        value, later = told[begin - 1], told[begin - 1 + many]
+        if value is None or later is None:
+            if value is not None or later is not None:
+                return begin
+        elif value + gains[(begin - 1) % many] != later:
+            return begin
+        begin = begin - 1
+    return begin
+
+
 def settled(told, gains):
     """The told ones and the gains of the normal form."""
     many = len(gains)
@@ -65,22 +83,20 @@ def settled(told, gains):
     climbs = [0 if tail[k] is None else gains[(begin + k) % many] for k in range(many)]
     period = least_period(tail, climbs)
     least = [climbs[(rest - begin) % period] * period // many for rest in range(period)]
-    while begin > 0 and leads(told[begin - 1], told[begin - 1 + period], least[(begin - 1) % period]):
-        begin = begin - 1
-    return told[:begin + period], least
+    return told[:begin_back(told, begin, least) + period], least
 
 
-def shifted_back(told, gains, k):
+def shifted_back(growth, k):
     """The rows of the values from k on."""
-    many = len(gains)
-    length = max(len(gains), len(told) - k)
-    return [value_at(told, gains, n + k) for n in range(length)], [gains[(rest + k) % many] for rest in range(many)]
+    many = len(growth.gains)
+    length = max(len(growth.gains), len(growth.told) - k)
+    return values_to(growth, k + length)[k:], [growth.gains[(rest + k) % many] for rest in range(many)]
 
 
-def shifted_on(told, gains, k):
+def shifted_on(growth, k):
     """The rows of the values with k times None ahead of them."""
-    many = len(gains)
-    return [None] * k + list(told), [gains[(rest - k) % many] for rest in range(many)]
+    many = len(growth.gains)
+    return [None] * k + list(growth.told), [growth.gains[(rest - k) % many] for rest in range(many)]
 
 
 def common_period(one, other):
@@ -102,20 +118,10 @@ def gain_over(growth, n, many):
 def summed(one, other):
     """The rows of the sum of two growths."""
     many = common_period(one, other)
-    told = []
-    for n in range(common_begin(one, other) + many):
-        first, second = value_at(one.told, one.gains, n), value_at(other.told, other.gains, n)
-        told.append(None if first is None or second is None else first + second)
+    length = common_begin(one, other) + many
+    told = [None if first is None or second is None else first + second
+            for first, second in zip(values_to(one, length), values_to(other, length))]
     return told, [gain_over(one, rest, many) + gain_over(other, rest, many) for rest in range(many)]
-
-
-def greater_value(first, second):
-    """The greater one of two values; where one of them is None, the other one."""
-    if first is None:
-        return second
-    if second is None:
-        return first
-    return max(int(first), second)
 
 
 def last_leader(first, climb, second, rise):
@@ -129,21 +135,27 @@ def last_leader(first, climb, second, rise):
     return first, climb, -((first - second) // (climb - rise))
 
 
-def tail_rows(growth, begin, many):
-    """The values from begin on, so many, a multiple of the period, and what each gains within so many places."""
+def tail_rows(growth, begin, many, sign):
+    """The values from begin on, so many, a multiple of the period, and what each gains within so many places.
+
+    All are told times the sign.
+    """
     period = len(growth.gains)
-    first = [value_at(growth.told, growth.gains, n) for n in range(begin, begin + period)]
-    gains = [growth.gains[n % period] for n in range(begin, begin + period)]
+    gains = [sign * growth.gains[n % period] for n in range(begin, begin + period)]
+    first = []
+    for n in range(begin, begin + period):
+        value = value_at(growth.told, growth.gains, n)
+        first.append(None if value is None else sign * value)
     tail = []
     for k in range(many // period):
         tail.extend([None if value is None else value + k * gain for value, gain in zip(first, gains)])
     return tail, [gain * (many // period) for gain in gains] * (many // period)
 
 
-def leading_rows(one, other, begin, many, is_kept):
+def leading_rows(one, other, begin, many, sign, is_kept):
     """The values and the climbs that win in the end, and the last place at which the winner is still behind."""
-    ones, climbs = tail_rows(one, begin, many)
-    others, rises = tail_rows(other, begin, many)
+    ones, climbs = tail_rows(one, begin, many, sign)
+    others, rises = tail_rows(other, begin, many, sign)
     tail = []
     gains = []
     last = begin - 1
@@ -157,10 +169,25 @@ def leading_rows(one, other, begin, many, is_kept):
     return tail, gains, last
 
 
-def greater(one, other, is_kept):
-    """The rows of the greater one of two growths; None of the first one stays, if it is kept. Raises TooMany."""
+def winning_values(one, other, length, sign, is_kept):
+    """The first values of the greater one of two growths, or of the lesser one; so many."""
+    ones, others = values_to(one, length), values_to(other, length)
+    if is_kept:
+        others = [None if first is None else second for first, second in zip(ones, others)]
+    if sign > 0:
+        return [second if first is None else first if second is None or first >= second else second
+                for first, second in zip(ones, others)]
+    return [second if first is None else first if second is None or first <= second else second
+            for first, second in zip(ones, others)]
+
+
+def winning(one, other, sign, is_kept):
+    """The rows of the greater one of two growths, of the lesser one for the sign -1. Raises TooMany.
+
+    None of the first one stays, if it is kept.
+    """
     many, begin = common_period(one, other), common_begin(one, other)
-    tail, climbs, last = leading_rows(one, other, begin, many, is_kept)
+    tail, climbs, last = leading_rows(one, other, begin, many, sign, is_kept)
     period = least_period(tail, climbs)
     if period > MOST_GAINS:
         raise TooMany("period", MOST_GAINS)
@@ -168,14 +195,8 @@ def greater(one, other, is_kept):
     # gain, so the normal form tells all up to there, and one period more: too many are refused before they are made.
     if last >= begin and last + 1 + period > MOST_TOLD:
         raise TooMany("told", MOST_TOLD)
-    told = []
-    for n in range(last + 1):
-        first, second = value_at(one.told, one.gains, n), value_at(other.told, other.gains, n)
-        told.append(None if is_kept and first is None else greater_value(first, second))
-    gains = [climbs[(rest - begin) % many] * period // many for rest in range(period)]
-    for n in range(last + 1, last + 1 + period):
-        told.append(value_at(tail, climbs, n - begin))
-    return told, gains
+    gains = [sign * climbs[(rest - begin) % many] * period // many for rest in range(period)]
+    return winning_values(one, other, last + 1 + period, sign, is_kept), gains
 
 
 def rounds_until_above(first, climb, second, rise):
@@ -192,13 +213,13 @@ def rounds_until_above(first, climb, second, rise):
 def place_above(one, other):
     """The least place at which one growth is above the other one, or alone; None if there is none."""
     many, begin = common_period(one, other), common_begin(one, other)
+    for n, (first, second) in enumerate(zip(values_to(one, begin), values_to(other, begin))):
+        if first is not None and (second is None or first > second):
+            return n
     found = None
-    for n in range(begin + many):
+    for n in range(begin, begin + many):
         first, second = value_at(one.told, one.gains, n), value_at(other.told, other.gains, n)
-        if n < begin:
-            rounds = rounds_until_above(first, 0, second, 0)
-        else:
-            rounds = rounds_until_above(first, gain_over(one, n, many), second, gain_over(other, n, many))
+        rounds = rounds_until_above(first, gain_over(one, n, many), second, gain_over(other, n, many))
         if rounds == 0:
             return n
         if rounds is not None and (found is None or n + rounds * many < found):

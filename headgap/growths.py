@@ -4,8 +4,8 @@ from math import gcd
 
 from headgap.errors import BadGrowth, BadNumber, BadText, TooMany
 from headgap.forms import (
-    MOST_GAINS, MOST_TOLD, greater, lasting_gains, place_above, read_rows, row_words, settled, shifted_back,
-    shifted_on, summed, value_at)
+    MOST_GAINS, MOST_TOLD, lasting_gains, place_above, read_rows, row_words, settled, shifted_back, shifted_on, summed,
+    value_at, winning)
 from headgap.kinds import is_count, is_integer
 
 
@@ -20,7 +20,10 @@ def are_told(told, least):
     """Whether any value can be the told ones of a growth, at least so many."""
     if not isinstance(told, (list, tuple)) or len(told) < least:
         return False
-    return all([value is None or is_integer(value) for value in told])
+    # Thousands of values are told, so each is asked no more than it takes.
+    wrong = [value for value in told
+             if value is not None and (value is True or value is False or not isinstance(value, int))]
+    return len(wrong) == 0
 
 
 def is_shift(k):
@@ -29,13 +32,17 @@ def is_shift(k):
 
 
 def made(told, gains):
-    """The growth of such rows, which may have more gains than a growth can have."""
-    if len(gains) <= MOST_GAINS:
-        return Growth(told, gains)
+    """The growth of such rows, made of growths; they may have more gains than a growth can have. Raises TooMany."""
     least_told, least_gains = settled(told, gains)
     if len(least_gains) > MOST_GAINS:
         raise TooMany("period", MOST_GAINS)
-    return Growth(least_told, least_gains)
+    if len(least_told) > MOST_TOLD:
+        raise TooMany("told", MOST_TOLD)
+    # Rows that come of growths hold what growths hold, so they are not looked through once more.
+    growth = Growth((0,))
+    growth.told = tuple(least_told)
+    growth.gains = tuple(least_gains)
+    return growth
 
 
 class Growth:
@@ -119,8 +126,8 @@ class Growth:
 
     def raised(self, k):
         """Each value below k is k; None stays."""
-        told, gains = greater(self, Growth.constant(k), True)
-        return Growth(told, gains)
+        told, gains = winning(self, Growth.constant(k), 1, True)
+        return made(told, gains)
 
     def first_above(self, other):
         """The least n at which this growth has an integer and other has none, or a less one; None if none is."""
@@ -155,7 +162,7 @@ class Growth:
 
     def __add__(self, other):
         if is_integer(other):
-            return self + Growth.constant(other)
+            return made([None if value is None else value + other for value in self.told], self.gains)
         if not isinstance(other, Growth):
             raise BadGrowth("other")
         told, gains = summed(self, other)
@@ -178,8 +185,8 @@ class Growth:
     def __mul__(self, other):
         if not is_integer(other):
             raise BadNumber(other)
-        return Growth([None if value is None else value * other for value in self.told],
-                      [gain * other for gain in self.gains])
+        return made([None if value is None else value * other for value in self.told],
+                    [gain * other for gain in self.gains])
 
     def __rmul__(self, other):
         return self * other
@@ -187,8 +194,8 @@ class Growth:
     def __or__(self, other):
         if not isinstance(other, Growth):
             raise BadGrowth("other")
-        told, gains = greater(self, other, False)
-        return Growth(told, gains)
+        told, gains = winning(self, other, 1, False)
+        return made(told, gains)
 
     def __ror__(self, other):
         raise BadGrowth("other")
@@ -196,8 +203,8 @@ class Growth:
     def __and__(self, other):
         if not isinstance(other, Growth):
             raise BadGrowth("other")
-        # The lesser of two values is the greater one of their negatives, and None plays the same part.
-        return -(-self | -other)
+        told, gains = winning(self, other, -1, False)
+        return made(told, gains)
 
     def __rand__(self, other):
         raise BadGrowth("other")
@@ -205,11 +212,11 @@ class Growth:
     def __lshift__(self, other):
         if not is_shift(other):
             raise BadNumber(other)
-        told, gains = shifted_back(self.told, self.gains, other)
+        told, gains = shifted_back(self, other)
         return made(told, gains)
 
     def __rshift__(self, other):
         if not is_shift(other):
             raise BadNumber(other)
-        told, gains = shifted_on(self.told, self.gains, other)
+        told, gains = shifted_on(self, other)
         return made(told, gains)

@@ -56,4 +56,4 @@ class Checks(unittest.TestCase):
 
     def equal(self, one, other):
         """Both are equal, in their kinds, too."""
-        self.assertTrue(same(one, other), f"{one!r} instead of {other!r}")
+        self.assertTrue(same(one, other), f"{repr(one)[:400]} instead of {repr(other)[:400]}")

@@ -58,6 +58,15 @@ def outcome_of(values, common):
         for n in sorted(range(begin, begin + many), key=lambda n: n % many))
 
 
+def is_settled(values, one, other, common, best):
+    """Whether two growths cross no more behind these values."""
+    for n in range(len(values) - common, len(values)):
+        far = best(one[n + 10 ** 12 * common], other[n + 10 ** 12 * common])
+        if values[n] is not None and values[n] + 10 ** 12 * (values[n] - values[n - common]) != far:
+            return False
+    return True
+
+
 def outcome(work):
     try:
         growth = work()
@@ -93,20 +102,12 @@ class Far(Checks):
             rows = row(one.told, one.gains, 9000), row(other.told, other.gains, 9000)
             for work, best in ((lambda: one | other, more), (lambda: one & other, less)):
                 values = [best(a, b) for a, b in zip(*rows)]
-                if begin_of(values, common) < 8800 and self.is_settled(values, one, other, common, best):
+                if begin_of(values, common) < 8800 and is_settled(values, one, other, common, best):
                     told = outcome(work)
                     self.equal(told, outcome_of(values, common))
                     kind = told[0] if isinstance(told[0], str) else len(told[0]) > 1000
                     seen[kind] = seen.get(kind, 0) + 1
         self.assertTrue(all(seen.get(kind, 0) > 10 for kind in ("told", True, False)), seen)
-
-    def is_settled(self, values, one, other, common, best):
-        """Whether the growths cross no more behind these values."""
-        for n in range(len(values) - common, len(values)):
-            far = best(one[n + 10 ** 12 * common], other[n + 10 ** 12 * common])
-            if values[n] is not None and values[n] + 10 ** 12 * (values[n] - values[n - common]) != far:
-                return False
-        return True
 
     def some(self, chance):
         """A growth of few told ones that grows slowly."""
