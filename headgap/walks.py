@@ -83,8 +83,8 @@ def rising_ring(graph):
             return None
     if last is None:
         return None
-    # No walk without such a ring rises in as many rounds as there are nodes. So many ways back from what rose last
-    # lead to the ring itself.
+    # Without such a ring nothing rises any more in as many rounds as there are nodes. As many ways back from what rose
+    # last surely lead into the ring.
     for _ in range(len(graph)):
         last, _ = came[last]
     return ring_along(came, last)
