@@ -8,7 +8,7 @@ from headgap.pair_walks import pair_graph, pair_tails
 from headgap.papers import Verdict
 from headgap.rows import followed
 from headgap.walks import climb_to, heights_from, rising_ring, step_graph, turned, words_from, words_to
-from headgap.ways import check_converter
+from headgap.ways import check_converter, useful_states
 
 
 class Cut(Verdict):
@@ -89,16 +89,25 @@ def endless_cut(graph, ahead, firsts, ends, ring):
     return EndlessCut(begin + ways[first], len(begin), text, words_to(list(ends), graph)[pair])
 
 
+def cut_graph(converter):
+    """The graph of the pairs behind cuts that are left."""
+    begins = [(state, converter.start) for state in useful_states(converter) if state in converter.tails]
+    return pair_graph(converter, converter, begins)
+
+
+def first_pairs(converter, graph):
+    """The pairs that are left just behind a cut."""
+    return [pair for pair in graph if pair[0] in converter.tails and pair[1] == converter.start]
+
+
 def dearest_cut(converter):
     """The greatest cost of a cut as a Cut, an EndlessCut if there is none; None if no text can be cut."""
     check_some_text(converter)
-    states = step_graph(converter)
-    ahead = words_from({converter.start: ""}, states)
-    begins = [(state, converter.start) for state in states if state in converter.tails]
-    graph = pair_graph(converter, converter, begins)
-    firsts = [pair for pair in begins if pair in graph]
+    graph = cut_graph(converter)
+    firsts = first_pairs(converter, graph)
     if len(firsts) == 0:
         return None
+    ahead = words_from({converter.start: ""}, step_graph(converter))
     ends = pair_tails(converter, converter, graph)
     ring = rising_ring(graph)
     if ring is not None:

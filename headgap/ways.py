@@ -3,6 +3,7 @@
 from headgap.converters import Converter
 from headgap.errors import BadConverter, BadWord, NoStep
 from headgap.kinds import is_text
+from headgap.rows import followed
 
 
 def check_converter(converter):
@@ -77,3 +78,13 @@ def useful_steps(converter):
                 if to in states:
                     found[state, letter] = (answer, to)
     return found
+
+
+def written_round(converter, ahead, ring, behind):
+    """How many letters a ring writes, if ahead, the ring any number of times, and behind are taken; None if not."""
+    _, state, many = followed(converter, converter.start, ahead)
+    written, back, more = followed(converter, state, ring)
+    _, end, last = followed(converter, state, behind)
+    if many < len(ahead) or more < len(ring) or last < len(behind):
+        return None
+    return len(written) if back == state and end in converter.tails else None
