@@ -1,15 +1,17 @@
 """What papers do with any values: they keep copies of them, and compare them by their kinds, too."""
 
+from headgap.live import Array
+
 
 def copied(value):
-    """A value that nothing done to the lists and dicts of this one changes."""
+    """A value that nothing done to the lists, the dicts and the arrays of this one changes."""
     if isinstance(value, list):
         return [copied(part) for part in value]
     if isinstance(value, tuple):
         return tuple([copied(part) for part in value])
     if isinstance(value, dict):
         return {key: copied(value[key]) for key in value}
-    return value
+    return value.twin() if isinstance(value, Array) else value
 
 
 def same(one, other):

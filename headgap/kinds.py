@@ -6,6 +6,7 @@ MOST_FIGURES = 60
 LONGEST_NAME = 8
 LONGEST_ANSWER = 4
 LONGEST_TEXT = 400
+MOST_IN_LOG = 10 ** 6
 
 
 def is_integer(value):
@@ -58,3 +59,8 @@ def is_number(word):
     if not all([sign in FIGURES for sign in figures]):
         return False
     return word == "0" or not figures.startswith("0")
+
+
+def is_log_number(value):
+    """Whether any value is an integer as the texts of logs tell them."""
+    return is_count(value) and value <= MOST_IN_LOG

@@ -5,11 +5,14 @@ import unittest
 from headgap.arrays import Beyond, Fits
 from headgap.converters import Converter
 from headgap.cuts import Cut, EndlessCut
+from headgap.desk import Desk
 from headgap.gaps import Enough, Never
 from headgap.growths import Growth
+from headgap.live import Array
 from headgap.rates import Rate
 from headgap.rings import Mean, Ring
 from headgap.sizes import Table
+from headgap.smallest import Lengths
 
 LINES = Converter("s", {("s", "a"): ("a", "s"), ("s", "n"): ("rn", "s")}, {"s": ""})
 TWICE = Growth.ramp(2)
@@ -21,6 +24,7 @@ ANYTHING = (
     [[[[[[[[]]]]]]]], LINES, TWICE, Rate(3, 2), Rate(1), Ring("s", "n"), Mean(Rate(2), Ring("s", "n"), {"s": 0}),
     Table({"s": TWICE}), Table({}), Enough(0, {"s": 0}, "a"), Enough(None, [1], True), Never("", "n", ""),
     Fits(0, {}, {"s": 0}, "nn"), Beyond("", "n", "", "a", ""), Cut(0, {("s", "s"): 0}, "a", 1), EndlessCut("a", 1, "a", ""),
+    Lengths(0, {(0, "a"): (1, 0), (0, "n"): (2, 0)}, {0: 0}), Lengths(True, [], None), Array(LINES, "ana", 1), Desk(),
 )
 # What decides by itself what its signs mean, also as a left operand.
 WITH_SIGNS = (Converter, Growth, Rate)

@@ -127,17 +127,104 @@ BURSTS = '''
 [2, 0, 2, 0]
 '''
 
-# Those of look_cuts are still to come; here stands what else their rows show.
 CUTS = '''
 >>> from headgap.cuts import Cut, EndlessCut, cost, dearest_cut, pieces
+>>> from headgap.look_cuts import shows_cut
 >>> evens = Converter("s", {("s", "a"): ("x", "t"), ("t", "a"): ("x", "s")}, {"s": "", "t": "yy"})
 >>> [pieces(evens, "aaa", 1, 1), cost(evens, "aa", 1), cost(evens, "aaa", 1), dearest_cut(evens).number]
 [('xyy', '', 'xx'), 4, 0, 4]
+>>> [shows_cut(evens, Cut(4, {("t", "s"): 2, ("s", "t"): 2, ("s", "s"): 0, ("t", "t"): 0}, "aa", 1)), shows_cut(evens, dearest_cut(evens)), dearest_cut(lines).number]
+[True, True, 0]
 >>> modes = Converter("s", {("s", "b"): ("", "t"), ("s", "a"): ("aa", "s"), ("t", "a"): ("a", "t")}, {"s": "", "t": ""})
->>> [dearest_cut(lines).number, bool(dearest_cut(modes)), cost(modes, "baaa", 1)]
-[0, False, 3]
+>>> [bool(dearest_cut(modes)), shows_cut(modes, EndlessCut("b", 1, "a", "")), cost(modes, "baaa", 1)]
+[False, True, 3]
 >>> pieces(evens, "aa", 2, 1)
 raises BadNumber(1)
+'''
+
+COMPARE = '''
+>>> from headgap.compare import alike_in_length, apart, difference, never_longer, shows_difference
+>>> plain = Converter("s", {("s", "a"): ("a", "s"), ("s", "n"): ("n", "s")}, {"s": "zz"})
+>>> [difference(plain, lines).number, bool(difference(lines, plain)), shows_difference(lines, plain, difference(lines, plain)), shows_difference(lines, plain, Never("", "n", "a"))]
+[2, False, True, True]
+>>> [never_longer(lines, plain), never_longer(lines, lines), apart(lines, plain), apart(lines, lines) is None, alike_in_length(plain, lines)]
+[False, True, '', True, False]
+'''
+
+SMALLEST = '''
+>>> from headgap.smallest import Lengths, counted, smallest
+>>> two = Converter("s", {("s", "a"): ("aa", "t"), ("t", "a"): ("", "u"), ("s", "b"): ("", "u"), ("u", "a"): ("bb", "t")}, {"t": "", "u": "c"})
+>>> found = smallest(two)
+>>> [found.first, found.steps == {(0, "a"): (1, 1), (0, "b"): (0, 1), (1, "a"): (1, 1)}, found.tails, counted(found, "aa"), counted(found, "ab")]
+[1, True, {1: 0}, 3, None]
+>>> smallest(lines) == Lengths(0, {(0, "a"): (1, 0), (0, "n"): (2, 0)}, {0: 0})
+True
+'''
+
+CALM = '''
+>>> from headgap.calm import blamed, calm_letters
+>>> [list(calm_letters(lines, 3)), blamed(lines, 3), list(calm_letters(lines.narrowed("n"), 3))]
+[[('a',)], (('n',),), [()]]
+'''
+
+LOGS = '''
+>>> from headgap.logs import explained, first_wrong, lengths_of, states_after
+>>> [states_after(stuff, [(5, 6)]), explained(stuff, [(5, 6)]), explained(stuff, ((2, 2), (6, 7))), first_wrong(stuff, [(3, 3), (4, 5)]), lengths_of(stuff, 5)]
+[('p',), 'aaaaa', 'aaaaaa', 1, (5, 6)]
+>>> [states_after(percent, [(1, 0)]), explained(percent, [(1, 0)]), explained(odds, [(0, 0)]), lengths_of(odds, 3), lengths_of(odds, 2)]
+[('u',), 'pff', 'a', (5,), ()]
+>>> explained(lines, [(2, 2), (2, 3)])
+raises BadLog(1)
+'''
+
+LIVE = '''
+>>> from headgap.live import Array
+>>> array = Array(lines, "ana", 1)
+>>> [array.step(), array.step(), array.writer, array.reader, array.ahead, array.stretch(0, 4), array.unread]
+['a', 'rn', 3, 3, 0, ('a', 'r', 'n', 'a'), 'a']
+>>> [array.run(), array.is_done, array.log, list(array)]
+['arna', True, ('step', 'step', 'run'), ['a', 'r', 'n', 'a']]
+>>> short = Array(lines, "nn")
+>>> short.step()
+raises RunOver(1)
+>>> short.ahead = 1
+raises NoRoom(2)
+>>> wide = Array(lines, "nn", 1, 4)
+>>> [wide.step(), wide.flush(), wide.put("a"), wide.unread, wide.undo(), wide.undo(), wide.log, wide.ahead]
+['rn', '', None, 'na', None, None, ('step',), 0]
+>>> [Array(lines, "nn", 2).run(), Array(lines, "aa").run()]
+['rnrn', 'aa']
+>>> late = Array(lines, "n", 0, 4)
+>>> [late.step(), late.reader, late.ahead, late.put("a"), late.move(1), late.unread, list(late)]
+['rn', 2, 0, None, None, 'a', ['r', 'n', None, 'a']]
+>>> moved = Array(lines, "nn", 1, 4)
+>>> moved.ahead = 2
+>>> [list(moved), moved.log, moved.ahead]
+[[None, None, 'n', 'n'], ('ahead 2',), 2]
+'''
+
+TEXTS = r'''
+>>> from headgap.reader import read, read_converter, read_log
+>>> from headgap.texts import converter_text, log_text
+>>> [converter_text(lines).split("\n"), read(converter_text(odd)) == odd, log_text([(2, 3), (1, 0)]), read_log("log")]
+[['converter s', 's a a s', 's n rn s', 's end -'], True, 'log\n2 3\n1 0', ()]
+>>> read_converter("converter s\ns end -\nt a a s")
+raises BadText(2, 1)
+>>> read_converter("converter s\ns a a")
+raises BadText(1, 3)
+'''
+
+DESK = '''
+>>> from headgap.desk import Desk
+>>> desk = Desk()
+>>> desk.run("let l @s s:a>a>s s:n>rn>s s$", "answer l nan", "longest l 1000000000000", "shortest l 3", "gap l", "extra l", "room l 5", "narrow l a", "gap l", "undo", "show l")
+['ok', 'rnarn', '2000000000000', '3', 'never', 'fits 0', '10', 'ok', 'enough 0', 'ok', '@s s:a>a>s s:n>rn>s s$']
+>>> desk.run("let b @s s:a>a>s s:r>>t t:n>n>s s$", "join c l b", "show c", "more l c", "more c l", "answer b -", "answer b r", "answer x a", "drop b", "gap b")
+['ok', 'ok', '@a a:a>a>a a:n>n>a a$', 'never', 'most 0', '-', 'refused NoTail', 'no x', 'ok', 'no b']
+>>> desk("let b @s s:a>s")
+raises BadCommand(3)
+>>> desk("answer l")
+raises BadCommand(2)
 '''
 
 # The same by the signs alone.
@@ -196,6 +283,31 @@ class Examples(unittest.TestCase):
 
     def test_cuts(self):
         self.check(CONVERTERS, CUTS)
+
+    def test_compare(self):
+        self.check(GROWTHS, CONVERTERS, SIZES, GAPS, COMPARE)
+
+    def test_smallest(self):
+        self.check(CONVERTERS, SMALLEST)
+
+    def test_calm(self):
+        self.check(CONVERTERS, CALM)
+
+    def test_logs(self):
+        self.check(GROWTHS, CONVERTERS, SIZES, GAPS, LOGS)
+
+    def test_live(self):
+        self.check(CONVERTERS, LIVE)
+
+    def test_texts(self):
+        self.check(CONVERTERS, TEXTS)
+
+    def test_desk(self):
+        self.check(DESK)
+
+    def test_all_in_their_order(self):
+        self.check(GROWTHS, CONVERTERS, RUNS, RINGS, SIZES, GAPS, ARRAYS, BURSTS, CUTS, COMPARE, JOINS, SMALLEST, CALM, LOGS, LIVE,
+                   TEXTS, DESK)
 
     def test_signs(self):
         self.check(CONVERTERS, SIGNS)

@@ -31,7 +31,23 @@ INTERFACE = {
     "sizes.py": "longest least burst table Table text_for", "look_sizes.py": "shows_table",
     "gaps.py": "gap_of gap Enough Never gap_for safe_length", "look_gaps.py": "shows_gap",
     "arrays.py": "array_of extra_of extra array_for fits_in Fits Beyond extra_for", "look_arrays.py": "shows_extra",
-    "bursts.py": "surely_taken", "cuts.py": "cost pieces dearest_cut Cut EndlessCut",
+    "bursts.py": "surely_taken", "cuts.py": "cost pieces dearest_cut Cut EndlessCut", "look_cuts.py": "shows_cut",
+    "compare.py": "difference shows_difference never_longer apart alike_in_length", "smallest.py": "smallest Lengths counted",
+    "calm.py": "calm_letters blamed", "logs.py": "states_after explained first_wrong lengths_of", "live.py": "Array",
+    "texts.py": "converter_text growth_text log_text", "reader.py": "read_converter read_growth read_log read", "desk.py": "Desk",
+}
+METHODS = {
+    "Growth": "__init__ __getitem__ __call__ stretch __iter__ __contains__ __add__ __radd__ __sub__ __rsub__ __neg__ __mul__ __rmul__ "
+              "__or__ __and__ __lshift__ __rshift__ raised __le__ first_above __eq__ constant ramp none __str__ read",
+    "Converter": "__init__ __call__ takes __getitem__ tail __contains__ __len__ __iter__ with_step with_tail without_step without_tail "
+                 "begun renamed narrowed of __eq__ __str__ read __rshift__ __or__ __and__ __mul__ __rmul__",
+    "Rate": "__init__ __eq__ __lt__ __le__ __gt__ __ge__ __add__ __radd__ __sub__ __rsub__ __neg__ __mul__ __str__ read",
+    "Array": "__init__ __len__ __getitem__ __setitem__ __iter__ __eq__ stretch step flush finish run put move undo trial tried twin",
+    "Desk": "__init__ say __call__ run __len__",
+}
+PROPERTIES = {
+    "Growth": "period greatest is_endless slope", "Rate": "floor", "Desk": "names",
+    "Array": "state reader writer unread written is_done ahead log",
 }
 NUMBERS_AND_STRINGS = {"len", "int", "ord", "str", "repr"}
 
@@ -198,6 +214,52 @@ class Language(unittest.TestCase):
                 for name, text in files()}
         for name, told in INTERFACE.items():
             self.assertLessEqual(set(told.split()), made[name], name)
+
+    def test_methods_are_defined_in_their_classes(self):
+        found = {node.name: node for place, node in self.nodes(ast.ClassDef)}
+        for name, told in METHODS.items():
+            self.assertLessEqual(set(told.split()), {part.name for part in found[name].body if isinstance(part, ast.FunctionDef)})
+        for name, told in PROPERTIES.items():
+            made = {part.name for part in found[name].body if isinstance(part, ast.FunctionDef) and any(
+                isinstance(mark, ast.Name) and mark.id == "property" for mark in part.decorator_list)}
+            self.assertEqual(made, set(told.split()))
+
+    def test_properties_have_names_of_their_own(self):
+        told = {name for names in PROPERTIES.values() for name in names.split()}
+        plain = [part.name for place, node in self.nodes(ast.ClassDef) for part in node.body
+                 if isinstance(part, ast.FunctionDef) and not part.decorator_list]
+        self.assertEqual(told & {*plain, *dir(str), *dir(list), *dir(dict), *dir(int), *dir(set), *dir(bytes)}, set())
+        # They are assigned off self alone, in classes that have an attribute of that name and no such property.
+        for place, node in self.nodes(ast.Attribute):
+            if isinstance(node.ctx, ast.Store) and node.attr in told:
+                self.assertEqual(ast.unparse(node.value), "self", place)
+
+    def test_leaving_a_block(self):
+        # Attributes are assigned attributes, one by one.
+        for place, node in self.nodes(ast.FunctionDef):
+            if node.name == "__exit__":
+                self.assertEqual([part.arg for part in node.args.args], ["self", "kind", "value", "trace"], place)
+                for part in node.body:
+                    self.assertIsInstance(part, ast.Assign, place)
+                    self.assertIsInstance(part.value, ast.Attribute, place)
+                    self.assertEqual(len(part.targets), 1, place)
+
+    def test_errors_that_are_caught(self):
+        own = {node.name for place, node in self.nodes(ast.ClassDef) if place.startswith("errors.py")}
+        for place, node in self.nodes(ast.ExceptHandler):
+            self.assertIn(node.type.id, own, place)
+        for place, node in self.nodes(ast.Try):
+            self.assertEqual(node.finalbody, [], place)
+
+    def test_attributes_are_assigned(self):
+        made = {node.attr for place, node in self.nodes(ast.Attribute) if isinstance(node.ctx, ast.Store)}
+        made |= {node.name for place, node in self.nodes(ast.FunctionDef)}
+        made |= {part.id for place, node in self.nodes(ast.ClassDef) for line in node.body if isinstance(line, ast.Assign)
+                 for part in line.targets}
+        builtin = {name for kind in (str, list, dict, int, tuple, set) for name in dir(kind)} | {"__class__", "__name__", "setter"}
+        for place, node in self.nodes(ast.Attribute):
+            if isinstance(node.ctx, ast.Load):
+                self.assertTrue(node.attr in made or node.attr in builtin, f"{place}: {node.attr}")
 
     def test_locals_hide_no_import_and_no_class(self):
         for name, text in files():
