@@ -145,6 +145,11 @@ class Array:
         """The state that is come to."""
         return self.place.name
 
+    # Errors and rings are assigned attributes of this name, and then the language wants a setter of each such property.
+    @state.setter
+    def state(self, value):
+        raise AttributeError("the state of an array is not assigned")
+
     @property
     def reader(self):
         """The cell of the next unread letter; the cell behind all that was read or written, if there is none."""

@@ -109,6 +109,30 @@ def wrong_returns(text):
     return found
 
 
+def assigned_names(tree):
+    """The names of the attributes that are assigned anywhere in a file, whatever the object; setattr counts, too."""
+    found = {node.attr for node in ast.walk(tree) if isinstance(node, ast.Attribute) and not isinstance(node.ctx, ast.Load)}
+    return found | {node.args[1].value for node in ast.walk(tree) if is_call_of(node, "setattr") and is_string(node.args[1])}
+
+
+def unset_properties(tree):
+    """The names of the properties of a file that have no setter in a class in which they are."""
+    found = set()
+    for node in ast.walk(tree):
+        if isinstance(node, ast.ClassDef):
+            marked = [(part.name, ast.unparse(mark)) for part in node.body if isinstance(part, ast.FunctionDef)
+                      for mark in part.decorator_list]
+            set_ones = {name for name, mark in marked if mark == f"{name}.setter"}
+            found |= {name for name, mark in marked if mark == "property"} - set_ones
+    return found
+
+
+def wrongly_assigned(texts):
+    """The names that are assigned as attributes in files and are properties without a setter in one of them (L5)."""
+    trees = [ast.parse(text) for text in texts]
+    return sorted({name for tree in trees for name in assigned_names(tree)} & {name for tree in trees for name in unset_properties(tree)})
+
+
 class Language(unittest.TestCase):
     def nodes(self, *kinds):
         for name, text in files():
@@ -233,6 +257,21 @@ class Language(unittest.TestCase):
         for place, node in self.nodes(ast.Attribute):
             if isinstance(node.ctx, ast.Store) and node.attr in told:
                 self.assertEqual(ast.unparse(node.value), "self", place)
+
+    def test_properties_that_are_assigned_have_setters(self):
+        self.assertEqual(wrongly_assigned([text for name, text in files()]), [])
+
+    def test_properties_that_are_told_to_lack_setters(self):
+        plain = "class A:\n @property\n def n(self): return self.m\n"
+        with_setter = plain + " @n.setter\n def n(self, value): self.m = value\n"
+        other = "class B:\n def __init__(self): self.n = 1\n"
+        for texts, told in (([plain], []), ([with_setter], []), ([plain, other], ["n"]), ([other, plain], ["n"]), ([plain + other], ["n"]),
+                            ([with_setter, other], []), ([with_setter, plain.replace("A", "C"), other], ["n"]), ([other], []),
+                            ([plain, "def f(x): x.n += 1"], ["n"]), ([plain, "def f(x): x.m, (x.n, k) = 1, (2, 3)"], ["n"]),
+                            ([plain, "def f(x):\n for x.n in [1]: pass"], ["n"]), ([plain, "def f(x): setattr(x, 'n', 1)"], ["n"]),
+                            ([plain, "def f(x):\n with x as x.n: pass"], ["n"]), ([plain, "def f(x): del x.n"], ["n"]),
+                            ([plain, "def f(x): return x.n"], []), ([plain, "def f(n): n = 1"], []), ([plain, "def f(x): x.n[0] = 1"], [])):
+            self.assertEqual(wrongly_assigned(texts), told, texts)
 
     def test_leaving_a_block(self):
         # Attributes are assigned attributes, one by one.

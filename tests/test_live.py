@@ -304,6 +304,71 @@ class Steps(Live):
                 self.equal([parts.run(), parts.written], [whole.twin().run(), converter(text)])
 
 
+class States(Live):
+    """What array.state tells, moment by moment, of a converter in which each deed leads elsewhere."""
+
+    WAY = Converter.read("@s s:a>x>t s:z>yyyy>s t:a>>u t:b>x>s u:a>x>u s$ t$pp")
+
+    def array(self):
+        return Array(self.WAY, "aab", 1, 9)
+
+    def test_behind_each_deed(self):
+        array = self.array()
+        found = [array.state]
+        for work in (array.step, lambda: array.put("a"), lambda: array.__setitem__(3, "a"), lambda: array.move(3), array.flush, array.step, array.undo, array.undo,
+                     array.step, lambda: setattr(array, "ahead", 4)):
+            work()
+            found.append(array.state)
+        self.equal(found, ["s", "t", "t", "t", "t", "s", "t", "s", "t", "u", "u"])
+        done = Array(self.WAY, "aba", 1, 9)
+        self.equal([done.run(), done.state, done.undo(), done.state, done.step(), done.step(), done.step(), done.finish(), done.state],
+                   ["xxxpp", "t", None, "s", "x", "x", "x", "xxxpp", "t"])
+
+    def test_behind_a_refused_deed(self):
+        array = self.array()
+        array.step()
+        array.step()
+        for error, fields, work in ((NoStep, [2, "u"], array.step), (NoTail, ["u"], array.flush), (BadDeed, ["letters"], array.finish),
+                                    (NoStep, [2, "u"], array.run), (BadNumber, [-1], lambda: array.move(-1)), (BadWord, [7], lambda: array.put(7))):
+            self.stays(array, error, fields, work)
+            self.equal(array.state, "u")
+        over = Array(self.WAY, "zz")
+        self.stays(over, RunOver, [1], over.step)
+        self.equal([over.state, array.undo(), array.state, array.undo(), array.state], ["s", None, "t", None, "s"])
+        self.refused(Nothing, [], array.undo)
+        self.equal(array.state, "s")
+
+    def test_behind_a_trial_and_of_a_twin(self):
+        array = self.array()
+        array.step()
+        twin = array.twin()
+        with array.trial() as held:
+            held.step()
+            within = held.twin()
+            self.equal([held.state, array.state, twin.state, within.state], ["u", "u", "t", "u"])
+            held.undo()
+            held.undo()
+            self.equal([array.state, within.state], ["s", "u"])
+        self.equal([array.state, array.tried(lambda held: held.step() + held.state), array.state], ["t", "u", "t"])
+        with self.assertRaises(NoStep):
+            array.tried(Array.run)
+        self.equal([array.state, twin.step(), twin.state, array.state, twin.undo(), twin.state], ["t", "", "u", "t", None, "t"])
+
+    def test_attributes_of_this_name(self):
+        # Errors and papers keep any values in it, whatever an array tells.
+        for value in ANYTHING:
+            for error in (NoStep(3, value), NoStep(at=3, state=value), NoTail(value), NoTail(state=value)):
+                self.assertIs(error.state, value)
+            for ring in (Ring(value, "a"), Ring(state=value, text="a")):
+                self.equal([ring.state, list(vars(ring))], [value, ["state", "text"]])
+
+    def test_it_cannot_be_assigned(self):
+        array = self.array()
+        for value in ("t", "s", None):
+            self.assertRaises(AttributeError, setattr, array, "state", value)
+            self.equal([array.state, array.log], ["s", ()])
+
+
 class Puts(Live):
     def test_four_hundred_letters(self):
         array = Array(LINES, "a" * 399, 0, 1000)
