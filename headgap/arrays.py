@@ -63,10 +63,15 @@ def extra_of(converter, text):
     return cells - max(len(text), len(converter(text)))
 
 
+def array_growth(lengths, gaps):
+    """The growth of the greatest array_of, from the growths of the greatest lengths and gaps."""
+    return lengths | (gaps + Growth.ramp(1))
+
+
 def array_for(converter):
     """The growth of the greatest array_of of the taken texts of n letters."""
     check_converter(converter)
-    return longest(converter) | (gap_for(converter) + Growth.ramp(1))
+    return array_growth(longest(converter), gap_for(converter))
 
 
 def fits_in(converter, cells):

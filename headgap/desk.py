@@ -1,6 +1,6 @@
 """Desks: lines of words make converters under names, and ask what is to be known of them."""
 
-from headgap.arrays import array_for, extra
+from headgap.arrays import array_growth, extra
 from headgap.compare import difference
 from headgap.converters import Converter
 from headgap.errors import BadCommand, BadText, HeadError
@@ -75,34 +75,61 @@ def words_of(line):
     return words
 
 
+class Shelved:
+    """A converter under a name, and the growths that were asked of it: it never changes, so they stay right."""
+
+    def __init__(self, converter, growths):
+        self.converter = converter
+        self.growths = growths
+
+
 def changed(words, shelf):
     """The converter that a line makes or changes, None for one that is dropped; raises what the functions raise."""
     word, name = words[0], words[1]
     if word == "let":
         return Converter.read(words[2])
     if word == "join":
-        return joined(shelf[words[2]], shelf[words[3]])
+        return joined(shelf[words[2]].converter, shelf[words[3]].converter)
     if word == "beside":
-        return beside(shelf[words[2]], shelf[words[3]])
+        return beside(shelf[words[2]].converter, shelf[words[3]].converter)
     if word == "common":
-        return common(shelf[words[2]], shelf[words[3]])
+        return common(shelf[words[2]].converter, shelf[words[3]].converter)
     if word == "times":
-        return repeated(shelf[words[2]], int(words[3]))
+        return repeated(shelf[words[2]].converter, int(words[3]))
     if word == "narrow":
         letters = words[2]
-        return shelf[name].narrowed(*letters)
+        return shelf[name].converter.narrowed(*letters)
     if word == "rename":
-        return shelf[name].renamed(words[2], words[3])
-    return shelf[name].begun(words[2]) if word == "begin" else None
+        return shelf[name].converter.renamed(words[2], words[3])
+    return shelf[name].converter.begun(words[2]) if word == "begin" else None
 
 
-def growth_of(word, converter):
-    """The growth that a word asks for."""
+def newly_shelved(words, shelf):
+    """What a line puts under its name, None for one that is dropped; raises what the functions raise."""
+    converter = changed(words, shelf)
+    if converter is None:
+        return None
+    # The names of states tell nothing of lengths and gaps.
+    growths = shelf[words[1]].growths if words[0] == "rename" else {}
+    return Shelved(converter, growths)
+
+
+def growth_made(word, held):
+    """The growth that a word asks for, of a converter with the growths that are there already."""
     if word == "longest":
-        return longest(converter)
+        return longest(held.converter)
     if word == "shortest":
-        return least(converter)
-    return gap_for(converter) if word == "ahead" else array_for(converter)
+        return least(held.converter)
+    if word == "ahead":
+        return gap_for(held.converter)
+    return array_growth(growth_of("longest", held), growth_of("ahead", held))
+
+
+def growth_of(word, held):
+    """The growth that a word asks for; it is made when it is asked for first."""
+    if word not in held.growths:
+        held.growths[word] = growth_made(word, held)
+    return held.growths[word]
 
 
 def number_word(value):
@@ -127,7 +154,8 @@ def more_words(one, other):
 
 def answered(words, shelf):
     """The answer to a question; raises what the functions raise."""
-    word, converter = words[0], shelf[words[1]]
+    word, held = words[0], shelf[words[1]]
+    converter = held.converter
     if word == "show":
         return str(converter)
     if word == "answer":
@@ -142,8 +170,8 @@ def answered(words, shelf):
     if word == "least":
         return str(state_count(converter))
     if word == "more":
-        return more_words(converter, shelf[words[2]])
-    return number_word(growth_of(word, converter)[int(words[2])])
+        return more_words(converter, shelf[words[2]].converter)
+    return number_word(growth_of(word, held)[int(words[2])])
 
 
 class Desk:
@@ -158,10 +186,10 @@ class Desk:
         """The ascending tuple of the names."""
         return tuple(sorted([str(name) for name in self.shelf]))
 
-    def set_down(self, name, converter):
-        """Puts a converter under a name, or none."""
-        if converter is not None:
-            self.shelf[name] = converter
+    def set_down(self, name, held):
+        """Puts a converter with its growths under a name, or none."""
+        if held is not None:
+            self.shelf[name] = held
         elif name in self.shelf:
             del self.shelf[name]
 
@@ -179,9 +207,9 @@ class Desk:
             return self.undone()
         if words[0] in QUESTIONS:
             return answered(words, self.shelf)
-        converter = changed(words, self.shelf)
+        held = newly_shelved(words, self.shelf)
         self.past.append((words[1], self.shelf.get(words[1])))
-        self.set_down(words[1], converter)
+        self.set_down(words[1], held)
         return "ok"
 
     def say(self, line):

@@ -28,7 +28,7 @@ def is_letters(value, least, most):
     """Whether any value is a string of letters alone, from least to most of them."""
     if not isinstance(value, str) or len(value) < least or len(value) > most:
         return False
-    return all([sign in LETTERS for sign in value])
+    return value == "" or (value.isascii() and value.isalpha() and value.islower())
 
 
 def is_letter(value):

@@ -29,7 +29,7 @@ def keep_equations(equations, growths):
         rows.append([growth[n + 1] for growth in growths])
         if rows[n + 1] != equations.row_behind(rows[n], n):
             return False
-    return goes_on(equations, rows, begin)
+    return goes_on(equations, rows, begin, ROUND)
 
 
 def shows_table(converter, word, value):

@@ -108,7 +108,8 @@ def read_parts(text):
     tails = {}
     last_step, last_tail = ("", ""), ""
     for at, word in enumerate(words[1:]):
-        step, tail = read_step(word), read_tail(word)
+        step = read_step(word)
+        tail = read_tail(word) if step is None else None
         if step is not None and last_tail == "" and step[0] > last_step:
             last_step = step[0]
             steps[last_step] = step[1]

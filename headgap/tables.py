@@ -1,12 +1,17 @@
 """The growths of the useful states: reckoned from length to length until they surely go on by gains alone."""
 
 from headgap.growths import Growth
-from headgap.ways import useful_states, useful_steps
+from headgap.ways import steps_between, useful_states
 
 WORDS = ("longest", "least", "burst", "gap")
-# The rings of at most six states that pass no state twice have at most six letters: within 60 letters each of them
-# comes round whole times, so all growths go on by 60 gains.
+# Growths go on by as many gains as there are letters in which rings come round whole times, one ring for each part of
+# the converter that has some. These rings share no state, so they have at most six letters together, and come round
+# in at most six: in one of these, the greatest first, or in a part of it.
+ROUNDS = (6, 5, 4)
+# They all are parts of this one.
 ROUND = 60
+# How many letters more are reckoned at first, if growths do not go on by gains alone from the first letter on.
+FIRST_MORE = 6
 
 
 def worth_of(word, answer):
@@ -32,15 +37,13 @@ class Equations:
         self.states = useful_states(converter)
         self.is_gap = word == "gap"
         self.first = [first_worth(word, converter, state) for state in self.states]
-        self.ways = [[] for state in self.states]
-        best = {}
-        steps = useful_steps(converter)
-        for state, letter in steps:
-            answer, to = steps[state, letter]
-            if (state, to) not in best or best[state, to] < worth_of(word, answer):
-                best[state, to] = worth_of(word, answer)
-        for state, to in best:
-            self.ways[self.states.index(state)].append((self.states.index(to), best[state, to]))
+        best = [{} for state in self.states]
+        places = {state: at for at, state in enumerate(self.states)}
+        for (state, _), (answer, to) in steps_between(converter, self.states).items():
+            row, worth = best[places[state]], worth_of(word, answer)
+            if places[to] not in row or row[places[to]] < worth:
+                row[places[to]] = worth
+        self.ways = [list(row.items()) for row in best]
 
     def row_behind(self, row, n):
         """The row at n + 1, from that at n."""
@@ -68,34 +71,33 @@ class Equations:
         return found
 
 
-def gain_rows(rows, begin):
-    """The gains within the round from begin on, row by row, None for None; None if a rest does not stay as it is."""
-    found = []
-    for n in range(begin, begin + ROUND):
-        gains = []
-        for value, later in zip(rows[n], rows[n + ROUND]):
-            if (value is None) != (later is None):
-                return None
-            gains.append(None if value is None or later is None else later - value)
-        found.append(gains)
-    return found
+def gains_between(row, later):
+    """What each value of a row gains up to a later one, None for None; None if a value does not stay as it is."""
+    gains = []
+    for value, other in zip(row, later):
+        if (value is None) != (other is None):
+            return None
+        gains.append(None if value is None or other is None else other - value)
+    return gains
 
 
-def goes_on(equations, rows, begin):
-    """Whether rows that keep the equations go on by gains alone from begin on, for ever; begin is 1 or more.
+def goes_on(equations, rows, begin, many):
+    """Whether rows that keep the equations go on by so many gains alone from begin on, for ever; begin is 1 or more.
 
     They are told up to two rounds behind begin.
     """
-    climbs = gain_rows(rows, begin)
-    if climbs is None:
+    climbs = [gains_between(rows[begin], rows[begin + many])]
+    if climbs[0] is None or climbs[0] != gains_between(rows[begin + many], rows[begin + 2 * many]):
         return False
-    for value, later, gain in zip(rows[begin + ROUND], rows[begin + 2 * ROUND], climbs[0]):
-        if (value is None) != (later is None) or (gain is not None and later != value + gain):
+    for n in range(begin + 1, begin + many):
+        gains = gains_between(rows[n], rows[n + many])
+        if gains is None:
             return False
+        climbs.append(gains)
     # What is the greatest for two rounds is so for all if nothing beside it gains more. For nought, which stands
     # beside all gaps, this means that no gap falls.
     for n, gains in enumerate(climbs):
-        behind = climbs[(n + 1) % ROUND]
+        behind = climbs[(n + 1) % many]
         for at, ways in enumerate(equations.ways):
             for to, _ in ways:
                 if gains[to] is not None and gains[to] > behind[at]:
@@ -105,24 +107,41 @@ def goes_on(equations, rows, begin):
     return True
 
 
+def reckoned(equations):
+    """The rows up to two rounds behind where they surely go on by gains alone, that place, and the round."""
+    begin = 1
+    rows = equations.rows_to(begin + 2 * ROUNDS[0])
+    while True:
+        for many in ROUNDS:
+            if goes_on(equations, rows, begin, many):
+                return rows, begin, many
+        # Twice as far each time: what is reckoned and tried in vain is no more than a part of what is needed.
+        begin = 2 * begin + FIRST_MORE
+        rows = equations.rows_on(rows, begin + 2 * ROUNDS[0])
+
+
+def growth_along(word, rows, begin, many, at):
+    """The growth of the state at this place, from rows that go on by so many gains alone from begin on."""
+    sign = -1 if word == "least" else 1
+    told = [None if row[at] is None else sign * row[at] for row in rows[:begin + 2 * many]]
+    gains = []
+    for rest in range(many):
+        n = begin + (rest - begin) % many
+        gains.append(0 if told[n] is None else told[n + many] - told[n])
+    return Growth(told[:begin + many], gains)
+
+
 def growths_of(converter, word):
     """The dict from the useful states to their growths."""
     equations = Equations(converter, word)
-    begin = 1
-    rows = equations.rows_to(begin + 2 * ROUND)
-    while not goes_on(equations, rows, begin):
-        begin = begin + ROUND
-        rows = equations.rows_on(rows, begin + 2 * ROUND)
-    climbs = gain_rows(rows, begin)
-    found = {}
-    for at, state in enumerate(equations.states):
-        gains = [climbs[(rest - begin) % ROUND][at] for rest in range(ROUND)]
-        growth = Growth([row[at] for row in rows[:begin + ROUND]], [0 if gain is None else gain for gain in gains])
-        found[state] = -growth if word == "least" else growth
-    return found
+    rows, begin, many = reckoned(equations)
+    return {state: growth_along(word, rows, begin, many, at) for at, state in enumerate(equations.states)}
 
 
 def growth_at_start(converter, word):
     """The growth of the start; none if no text is taken."""
-    growths = growths_of(converter, word)
-    return growths[converter.start] if converter.start in growths else Growth.none()
+    equations = Equations(converter, word)
+    if converter.start not in equations.states:
+        return Growth.none()
+    rows, begin, many = reckoned(equations)
+    return growth_along(word, rows, begin, many, equations.states.index(converter.start))

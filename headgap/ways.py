@@ -59,17 +59,27 @@ def states_ended(converter, n):
     return rows
 
 
+def states_that_end(converter):
+    """The states from which some text leads to a tail."""
+    found = {state: True for state in converter.tails}
+    many = -1
+    while len(found) > many:
+        many = len(found)
+        for (state, _), (_, to) in converter.steps.items():
+            if to in found:
+                found[state] = True
+    return found
+
+
 def useful_states(converter):
     """The ascending tuple of the states that the run of some taken text passes."""
-    # A way to a tail that passes no state twice has fewer letters than there are states.
-    rows = states_ended(converter, len(converter.states) - 1)
+    ended = states_that_end(converter)
     reached = states_reached(converter)
-    return tuple([state for state in converter.states if state in reached and any([state in row for row in rows])])
+    return tuple([state for state in converter.states if state in reached and state in ended])
 
 
-def useful_steps(converter):
-    """The steps between useful states, by state, then letter."""
-    states = useful_states(converter)
+def steps_between(converter, states):
+    """The steps between these states, by state, then letter."""
     found = {}
     for state in states:
         for letter in converter.letters:
@@ -78,6 +88,11 @@ def useful_steps(converter):
                 if to in states:
                     found[state, letter] = (answer, to)
     return found
+
+
+def useful_steps(converter):
+    """The steps between useful states, by state, then letter."""
+    return steps_between(converter, useful_states(converter))
 
 
 def written_round(converter, ahead, ring, behind):

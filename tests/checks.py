@@ -1,5 +1,6 @@
 """What several tests need: a check of refused calls, and values of every kind."""
 
+import sys
 import unittest
 
 from headgap.arrays import Beyond, Fits
@@ -42,6 +43,24 @@ def same(one, other):
     if isinstance(one, dict):
         return len(one) == len(other) and all(key in other and same(one[key], other[key]) for key in one)
     return one == other
+
+
+def lines_run(work, *values):
+    """How many lines of Python a call runs, in all functions that it calls."""
+    many = 0
+
+    def count(frame, event, worth):
+        nonlocal many
+        many += event == "line"
+        return count
+
+    before = sys.gettrace()
+    sys.settrace(lambda frame, event, worth: count)
+    try:
+        work(*values)
+    finally:
+        sys.settrace(before)
+    return many
 
 
 class Checks(unittest.TestCase):

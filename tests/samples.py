@@ -39,6 +39,8 @@ BEHIND = Converter.read("@a a:a>xx>a a:b>x>b b:a>>b b:b>x>z z:a>xx>z z$")
 # The ring falls, a way beside it rises by nine and comes to the ring; and the ring rises, the ways behind it fall.
 HIGH = Converter.read("@s s:a>xxxx>t t:a>xxxx>u u:a>xxxx>v v:a>>v v:b>x>w v$ w$pp")
 DEEP = Converter.read("@v s:a>>t t:a>>u u:a>>w v:a>xx>v v:b>>s w:b>x>w v$x w$")
+# A ring falls ahead of a way that rises by twelve: the gap falls for twelve letters, down to nought.
+FALLS = Converter.read("@s s:a>>s s:b>wwww>t t:b>wwww>u u:b>wwww>v v:b>wwww>w w:b>wwww>x x$")
 # Six states, four letters, answers of none and of four.
 SIX = Converter.read(
     "@a a:a>w>f a:b>>d a:x>w>c a:z>www>d b:a>wwww>c b:b>www>f b:x>wwww>c b:z>wwww>f c:a>wwww>e c:b>wwww>e c:x>>a "

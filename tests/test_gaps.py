@@ -12,8 +12,8 @@ from tests.checks import ANYTHING, LINES, NO_CONVERTERS, NO_INTEGERS, NO_TEXTS, 
 from tests.plain_sizes import far_values, gap_by_cells, most_of, rows, useful_of, useful_steps, weight_along
 from tests.plain_ways import taken, walk, words
 from tests.samples import (
-    BOTH, EACH, EDGES, EMPTY, FINITE, GREAT, JUST_TAIL, NO_TAIL, NO_WAY, ODDS, ONLY_EMPTY, PACKS, PERCENT, RISING, SIX,
-    SMALL, STUFF, TRAP)
+    BOTH, EACH, EDGES, EMPTY, FALLS, FINITE, GREAT, JUST_TAIL, NO_TAIL, NO_WAY, ODDS, ONLY_EMPTY, PACKS, PERCENT, RISING,
+    SIX, SMALL, STUFF, TRAP)
 
 FAR = [10 ** 12 + k for k in range(7)] + [10 ** 30 + k for k in range(7)]
 # Heights below 0 ahead of some above it: the greatest one is at s, where no text of four letters comes to it.
@@ -197,6 +197,16 @@ class GapFor(Checks):
         self.equal([str(gap_for(converter)) for converter in (NO_TAIL, NO_WAY, ONLY_EMPTY, JUST_TAIL, FINITE, LAST)],
                    ["- ; 0", "- ; 0", "0 - ; 0", "0 - ; 0", "0 0 0 3 - ; 0", "0 ; 0"])
         self.equal(str(gap_for(converter=LINES)), "0 0 ; 1")
+
+    def test_a_gap_that_falls_for_long(self):
+        # It falls by one for each letter, but never below nought.
+        self.equal(str(gap_for(FALLS)), "- - - - - 12 11 10 9 8 7 6 5 4 3 2 1 0 ; 0")
+        two = Converter.read("@s r:a>>s s:a>>r s:b>wwww>t t:b>wwww>u u:b>wwww>v v:b>wwww>x x$")
+        for converter in (FALLS, FALLS.begun("t"), FALLS.with_step("s", "c", "", "t"), FALLS.with_step("s", "b", "ww", "t"),
+                          FALLS.with_tail("t", "pppp"), FALLS.with_step("x", "a", "", "x"), two, two.with_tail("t", "")):
+            told = [row.get(converter.start) for row in rows(converter, "gap", 170)]
+            self.equal(list(gap_for(converter).stretch(0, 171)), told)
+            self.equal([gap_for(converter)[n] for n in FAR], [row.get(converter.start) for row in far_values(converter, "gap", FAR)])
 
     def test_slow_rings(self):
         # The ring of five letters rises by one alone.

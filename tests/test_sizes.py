@@ -1,5 +1,6 @@
 """headgap/sizes.py and headgap/look_sizes.py: the greatest and the least lengths, bursts, tables, and their texts."""
 
+import random
 import time
 from math import gcd
 
@@ -23,6 +24,20 @@ FAR = [10 ** 12 + k for k in range(7)] + [10 ** 30 + k for k in range(7)]
 
 def values(growths, n):
     return {state: growth[n] for state, growth in growths.items()}
+
+
+def ring_by_ring(lengths, chance):
+    """A converter with rings of these lengths, one behind the other, and ways from each of them to the next one."""
+    steps, names, ahead = {}, list("stuvwx"), []
+    for many in lengths:
+        ring, names = names[:many], names[many:]
+        for at, name in enumerate(ring):
+            steps[name, "a"] = ("wxyz"[:chance.randint(0, 4)], ring[(at + 1) % many])
+        if ahead:
+            steps[chance.choice(ahead), "b"] = ("wxyz"[:chance.randint(0, 4)], chance.choice(ring))
+        ahead = ring
+    tails = {name: "pqrs"[:chance.randint(0, 4)] for name in "stuvwx"[:sum(lengths)] if chance.random() < 0.3}
+    return Converter("s", steps, {**tails, ahead[0]: "p"})
 
 
 class Lengths(Checks):
@@ -71,6 +86,19 @@ class Lengths(Checks):
         growth = longest(SHARED)
         self.equal(list(growth.stretch(0, 300)), [row["a"] for row in rows(SHARED, "longest", 299)])
         self.equal((growth.period, growth.slope), (5, (16, 5)))
+
+    def test_rings_of_all_lengths_that_share_no_state(self):
+        chance = random.Random(6)
+        periods = set()
+        for lengths in [(k,) for k in range(1, 7)] + [(1, 5), (5, 1), (2, 4), (4, 2), (3, 3), (2, 3), (3, 2), (1, 4), (1, 2, 3), (3, 2, 1), (2, 2, 2), (1, 1, 4)]:
+            for _ in range(8):
+                converter = ring_by_ring(lengths, chance)
+                for word in WORDS:
+                    growths = table(converter, word).growths
+                    told, far = rows(converter, word, 150), far_values(converter, word, FAR)
+                    self.equal([values(growths, n) for n in [*range(151), *FAR]], [*told, *far])
+                    periods |= {growth.period for growth in growths.values()}
+        self.equal(sorted(periods), [1, 2, 3, 4, 5, 6])
 
     def test_far_away(self):
         for converter in [*EDGES, *GREAT[:12]]:
